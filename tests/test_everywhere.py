@@ -1,0 +1,119 @@
+"""What holds everywhere: the names of the interface, and values that stay as they are."""
+
+import copy
+import inspect
+import random
+import unittest
+from importlib import import_module
+
+from samples import crowded_game, random_presses, random_script
+
+INTERFACE = {
+    "boxes": {"meet": "one other", "grown": "box by", "moved": "box dx dy", "squares": "box size",
+              "gap": "one other dx dy", "around": "boxes"},
+    "levels": {"is_level": "told", "is_kind": "told", "is_game": "told", "sign_at": "level x y",
+               "is_free": "level box", "lands": "level box", "floor_size": "level", "blocks": "level"},
+    "things": {"is_thing": "game told", "box_of": "game thing", "has": "game thing trait",
+               "born": "game kind house x y dx dy", "middle": "game thing", "under": "game thing"},
+    "cells": {"cells_of": "game", "first_world": "game seed", "is_world": "game told", "wrong_cell": "game told",
+              "kind_of_cell": "game cell", "bucket_cells": "game box", "with_thing": "game world slot thing",
+              "unlike": "one other"},
+    "floor": {"meeting": "game looks box but", "lot": "game looks slot dx dy", "stands_on": "game looks slot",
+              "moved_lot": "game world slots dx dy"},
+    "deeds": {"all_deeds": "", "done": "game presses deed looks", "hears": "game deed thing"},
+    "scripts": {"is_expression": "told", "is_script": "told", "size_of": "script", "depth_of": "script",
+                "number_of": "expression reads", "plain_run": "script reads", "wants": "script"},
+}
+
+
+def module(name):
+    return import_module("latepresses." + name)
+
+
+def is_plain(value):
+    """True if it is an integer, a text, a bool, None, or a tuple of such all the way down."""
+    if type(value) is tuple:
+        return all(is_plain(part) for part in value)
+    return value is None or type(value) in (int, str, bool)
+
+
+class TestInterface(unittest.TestCase):
+    def test_functions_are_defined_in_their_files_with_their_arguments(self):
+        for file, functions in INTERFACE.items():
+            for name, arguments in functions.items():
+                function = getattr(module(file), name)
+                self.assertTrue(inspect.isfunction(function), name)
+                self.assertEqual(function.__module__, "latepresses." + file)
+                self.assertEqual(list(inspect.signature(function).parameters), arguments.split(), name)
+
+    def test_methods_are_defined_in_their_classes(self):
+        looks = module("cells").Looks
+        self.assertEqual(looks.__module__, "latepresses.cells")
+        for name, arguments in (("__init__", "self world"), ("at", "self cell"), ("seen", "self")):
+            self.assertIn(name, vars(looks))
+            self.assertEqual(list(inspect.signature(vars(looks)[name]).parameters), arguments.split())
+
+
+class TestValues(unittest.TestCase):
+    def setUp(self):
+        rng = random.Random(20)
+        self.game = crowded_game(rng)
+        self.world = module("cells").first_world(self.game, 7)
+        self.presses = random_presses(rng, self.game)
+        self.script = random_script(rng, 4)
+        thing = self.world[0]
+        self.reads = (thing, 0, (0,) * 16, 7, ((1, 0, -1, (1, 2, 3, 4)),), ".", "#")
+        self.looks = module("cells").Looks
+        box = module("things").box_of(self.game, thing)
+        level = self.game[0]
+        self.values = {
+            "one": box, "other": box, "box": box, "by": 1, "dx": 1, "dy": 0, "size": 8, "boxes": [box, (0, 0, 1, 1)],
+            "told": self.game, "level": level, "x": 3, "y": 4, "game": self.game, "thing": thing, "trait": "bars",
+            "kind": 0, "house": -1, "seed": 7, "cell": 3, "world": self.world, "slot": 0, "slots": (0,), "but": (),
+            "presses": self.presses, "deed": (0, 0), "script": self.script, "reads": self.reads,
+            "expression": ("sum", ("x",), ("drawn", 9))}
+
+    def calls(self):
+        for file, functions in INTERFACE.items():
+            for name, arguments in functions.items():
+                values = [self.looks(self.world) if argument == "looks" else self.values[argument]
+                          for argument in arguments.split()]
+                yield name, getattr(module(file), name), arguments.split(), values
+
+    def test_what_is_handed_in_stays_as_it_is(self):
+        for name, function, _, values in self.calls():
+            kept = copy.deepcopy([value for value in values if not isinstance(value, self.looks)])
+            function(*values)
+            self.assertEqual([value for value in values if not isinstance(value, self.looks)], kept, name)
+
+    def test_by_position_and_by_name(self):
+        for name, function, arguments, values in self.calls():
+            self.assertEqual(function(*values), function(**dict(zip(arguments, values))), name)
+
+    def test_tuples_all_the_way_down(self):
+        for name, function, _, values in self.calls():
+            if name != "squares":
+                self.assertTrue(is_plain(function(*values)), name)
+
+    def test_lists_are_new_and_hold_tuples(self):
+        squares = module("boxes").squares
+        one, other = squares((0, 0, 9, 9), 8), squares((0, 0, 9, 9), 8)
+        self.assertEqual((type(one), one is other), (list, False))
+        self.assertTrue(all(is_plain(part) for part in one))
+
+    def test_truths_are_bools(self):
+        for name, function, _, values in self.calls():
+            if name.startswith("is_") or name in ("meet", "has", "lands"):
+                self.assertIs(type(function(*values)), bool, name)
+
+    def test_twice_the_same(self):
+        for name, function, _, values in self.calls():
+            if not any(isinstance(value, self.looks) for value in values):
+                self.assertEqual(function(*values), function(*values), name)
+
+    def test_what_looks_tell_may_be_kept(self):
+        looks = self.looks(self.world)
+        looks.at(3)
+        kept = looks.seen()
+        looks.at(0)
+        self.assertEqual((kept, is_plain(looks.seen())), (((3, self.world[3]),), True))

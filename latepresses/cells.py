@@ -8,7 +8,7 @@ from latepresses.errors import InvalidCell, InvalidNumber, InvalidPair, InvalidS
 from latepresses.floor import stands_on
 from latepresses.ground import block_counts, is_clear
 from latepresses.levels import need_game
-from latepresses.limits import BUCKET, MARK, MET, MOST_SEED, MOST_SET, SEED, SLOTS
+from latepresses.limits import BUCKET, MARK, MARKS, MET, MOST_SEED, MOST_SET, SEED, SLOTS
 from latepresses.plain import ascends, is_between, is_row
 
 
@@ -29,7 +29,7 @@ def first_world(game, seed):
     need_game(game)
     if not is_between(seed, 0, MOST_SEED):
         raise InvalidNumber(seed)
-    empty = (None,) * SLOTS + ((),) * SLOTS + (seed,) + (0,) * (BUCKET - MARK)
+    empty = (None,) * SLOTS + ((),) * SLOTS + (seed,) + (0,) * MARKS
     sheet = Sheet(empty + ((),) * (_count(game) - BUCKET))
     starts = game[0][1]
     for slot, (kind, house, x, y) in enumerate(starts):

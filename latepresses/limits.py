@@ -1,6 +1,7 @@
 """Numbers that several files share: where the cells of a world are, and what things can be."""
 
 SLOTS = 16
+MARKS = 16
 MET = 16
 SEED = 32
 MARK = 33

@@ -8,7 +8,7 @@ from latepresses.drafts import Draft
 from latepresses.floor import lot, meeting, stands_on
 from latepresses.forms import wanted_by
 from latepresses.ground import is_below, is_clear, is_on_spikes
-from latepresses.limits import IN_THE_AIR, MARK, MET, MOST_WAY, ON_THE_FLOOR, SEED, SLOTS
+from latepresses.limits import IN_THE_AIR, MARK, MARKS, MET, MOST_WAY, ON_THE_FLOOR, SEED, SLOTS
 from latepresses.plain import kept
 from latepresses.readings import ran
 
@@ -74,7 +74,7 @@ def _reads(game, draft, slot, press, wanted):
     """Returns what the rules of a thing read."""
     thing = draft.at(slot)
     wanted_marks, wants_seed, wants_met = wanted
-    marks = tuple([draft.at(MARK + mark) if mark in wanted_marks else None for mark in range(SLOTS)])
+    marks = tuple([draft.at(MARK + mark) if mark in wanted_marks else None for mark in range(MARKS)])
     seed = draft.at(SEED) if wants_seed else None
     met = _met_things(draft, slot) if wants_met else ()
     return (thing, press, marks, seed, met, sign_here(game, thing), sign_under(game, thing))

@@ -131,6 +131,8 @@ class TestWrongCell(unittest.TestCase):
         for met, right in (((), True), ((1,), True), ((1, 2, 15), True), ((0,), False), ((0, 1), False),
                            ((2, 1), False), ((1, 1), False), ((16,), False), ((-1, 1), False)):
             self.wrong(put(world, 16, met), None if right else 16)
+        self.wrong(put(world, 17, (0, 2)), None)
+        self.wrong(put(world, 17, (0, 1)), 17)
         self.wrong(put(world, 18, (1,)), 18)
         self.wrong(put(world, 31, (0,)), 31)
 

@@ -96,6 +96,10 @@ class TestScripts(DeedCase):
         for press, own in ((0, 0), (1, 1), (32, 10), (33, 11), (30, 0)):
             writes, _ = self.run_rules(rules, press=press)
             self.assertEqual(writes[0][1][7][0] if writes else 1, own)
+        game = game_of(rules)
+        for house, own in ((0, 11), (1, 10), (-1, 0)):
+            world = world_of(game, thing(RULED, 20, 16, house=house, own=(5, 0, 0, 0)))
+            self.assertEqual(self.deed(game, world, (0, 0), (33, 32))[0][0][1][7][0], own)
         mine = thing(RULED, 20, 16, house=-1, own=(5, 0, 0, 0))
         self.assertEqual(self.run_rules(rules, mine=mine, press=63)[0][0][1][7][0], 0)
         mine = thing(RULED, 20, 16, house=0, own=(5, 0, 0, 0))
@@ -129,6 +133,13 @@ class TestScripts(DeedCase):
         things = (None, thing(STONE, 40, 0, own=(8, 0, 0, 0)), thing(STONE, 60, 0, own=(9, 0, 0, 0)))
         writes, cells = self.run_rules(rules, *things, cells=((16, (1, 2, 3)),))
         self.assertEqual((writes[0][1][7][0], cells), (8, (0, 1, 2, 3, 16)))
+
+    def test_a_thing_of_another_slot_reads_its_own_met_cell(self):
+        game = game_of((("own", 0, ("met", STONE)),))
+        world = world_of(game, thing(STONE, 40, 0), None, thing(RULED, 20, 16),
+                         cells=((16, (2,)), (18, (0, 5)), (17, ()), (14, None)))
+        writes, cells = self.deed(game, world, (0, 2))
+        self.assertEqual((writes[0][1][7][0], cells), (1, (0, 2, 5, 18)))
 
     def test_signs_here_and_below(self):
         rows = ("....", "w^..", "####", "....")
@@ -314,7 +325,7 @@ class TestAcross(DeedCase):
 
     def test_only_what_has_a_unit_right_above_is_carried(self):
         for x, y, went in ((20, 16, True), (13, 16, True), (12, 16, False), (27, 16, True), (28, 16, False),
-                           (20, 15, False), (20, 17, True)):
+                           (20, 15, False), (20, 17, True), (20, 23, True), (20, 24, False), (20, 25, False)):
             writes, _ = self.across(thing(CART, 20, 24, 1), thing(GHOST, x, y, rest=0))
             self.assertEqual(dict(writes).get(1), thing(GHOST, x + 1, y, rest=0) if went else None, (x, y))
 
@@ -553,7 +564,7 @@ class TestHears(unittest.TestCase):
 
 class TestErrors(unittest.TestCase):
     WRONG_GAME = game_of(pull=4)
-    WRONG_DEEDS = ((5, 0), (-1, 0), (0, 16), (0, -1), (80, 80))
+    WRONG_DEEDS = ((5, 0), (-1, 0), (0, 16), (0, -1), (80, 80), (0, 0, 0), (0,), ())
     WRONG_PRESSES = ((), (0,), (0, 0, 0), (0, 64), (-1, 0))
 
     def test_a_game_that_is_none_comes_first(self):

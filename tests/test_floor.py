@@ -239,6 +239,7 @@ class TestStandsOn(unittest.TestCase):
         self.stands(world_of((CRATE, 0, 47), (CRATE, 0, 55)), 0, -2, (0,))
         self.stands(world_of((CRATE, 0, 48), (CRATE, 0, 56)), 0, -2, (0,))
         self.stands(world_of((CRATE, 0, 60)), 0, -2, (0,))
+        self.stands(world_of((CRATE, -4, 60)), 0, -2, (0,))
 
     def test_errors(self):
         for slot in (0, 16, -1):

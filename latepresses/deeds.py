@@ -1,10 +1,11 @@
 """The deeds of a tick."""
 
-from latepresses.errors import InvalidPair, InvalidPress
+from latepresses.checks import need_presses
+from latepresses.errors import InvalidPair
 from latepresses.levels import need_game
-from latepresses.limits import MOST_PRESS, SLOTS
+from latepresses.limits import SLOTS
 from latepresses.phases import PHASES, house_heard, writes_of
-from latepresses.plain import is_between, is_row
+from latepresses.plain import is_between
 
 
 def all_deeds():
@@ -15,20 +16,19 @@ def all_deeds():
 def done(game, presses, deed, looks):
     """Returns the ascending tuple of (cell, value) that a deed writes."""
     need_game(game)
-    if not is_row(presses, 0, MOST_PRESS) or len(presses) != game[0][2]:
-        raise InvalidPress(presses)
-    _need_deed(deed)
+    need_presses(game, presses)
+    need_deed(deed)
     return writes_of(game, presses, deed, looks)
 
 
 def hears(game, deed, thing):
     """Returns the house whose press a deed of a thing, or None, hears, -1 if it hears none."""
     need_game(game)
-    _need_deed(deed)
+    need_deed(deed)
     return house_heard(deed, thing)
 
 
-def _need_deed(deed):
+def need_deed(deed):
     """Raises InvalidPair if a deed is none."""
     if len(deed) != 2 or not is_between(deed[0], 0, PHASES - 1) or not is_between(deed[1], 0, SLOTS - 1):
         raise InvalidPair(deed)

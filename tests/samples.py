@@ -131,3 +131,41 @@ def after_tick(game, world, presses):
 
 def first(game, seed=7):
     return first_world(game, seed)
+
+
+def n(number):
+    return ("number", number)
+
+
+def hero_rules(reach=3):
+    """Goes and jumps by what is pressed, shoots by a, counts in mark 0 by b."""
+    way = ("less", ("times", ("held", 1), n(reach)), ("times", ("held", 0), n(reach)))
+    jump = ("pick", ("both", ("held", 2), ("rests",)), n(-6), ("dy",))
+    return (("go", way, jump), ("own", 0, ("met", 1)),
+            ("when", ("held", 4), (("born", 3, n(7), n(1), n(5), n(-1)),), ()),
+            ("when", ("held", 5), (("mark", 0, ("sum", ("mark", 0), n(1))),), ()))
+
+
+SHOT_RULES = (("own", 0, ("sum", ("own", 0), n(1))), ("when", ("below", n(4), ("own", 0)), (("gone",),), ()))
+CART_RULES = (("go", ("pick", ("below", ("own", 1), n(4)), n(2), n(-2)), n(0)),
+              ("own", 1, ("rest", ("sum", ("own", 1), n(1)), n(8))))
+BUBBLE_RULES = (("go", ("less", ("drawn", 5), n(2)), ("less", ("drawn", 3), n(1))),
+                ("mark", 1, ("sum", ("mark", 1), ("met", 0))))
+PLAYED_KINDS = (("hero", 6, 8, ("bars", "falls", "frail"), (0, 0, 0, 0), hero_rules()),
+                ("crate", 8, 8, ("bars", "falls", "pushed"), (0, 0, 0, 0), ()),
+                ("cart", 10, 5, ("bars", "carries", "falls"), (0, 0, 0, 0), CART_RULES),
+                ("shot", 3, 3, ("falls", "frail"), (0, 0, 0, 0), SHOT_RULES),
+                ("bubble", 5, 5, (), (0, 0, 0, 0), BUBBLE_RULES))
+PLAYED_ROWS = ("............", "..=....====.", "............", "............", "ww...#......", "ww...#.^....",
+               "##<>####.###")
+
+
+def played_game(houses=2):
+    """A game whose heroes hear presses, with carrying, pushing, belts, water, spikes, births, marks and draws."""
+    starts = ((0, 0, 18, 0), (0, 1 % houses, 60, 0), (1, -1, 28, 40), (2, -1, 76, 43), (1, -1, 77, 35),
+              (4, -1, 3, 34), (0, houses - 1, 4, 40))
+    return ((PLAYED_ROWS, starts, houses, 1), PLAYED_KINDS)
+
+
+def random_rows_of_presses(rng, game, many):
+    return tuple(random_presses(rng, game) for _ in range(many))

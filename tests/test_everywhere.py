@@ -21,9 +21,21 @@ INTERFACE = {
     "floor": {"meeting": "game looks box but", "lot": "game looks slot dx dy", "stands_on": "game looks slot",
               "moved_lot": "game world slots dx dy"},
     "deeds": {"all_deeds": "", "done": "game presses deed looks", "hears": "game deed thing"},
+    "ticks": {"tick": "game world presses", "run": "game world rows", "last": "game world rows",
+              "settled": "game world most"},
+    "looks": {"noted": "game presses deed world", "traced": "game world presses", "trace": "game world rows",
+              "behind": "world notes", "touches": "one other", "is_trace": "game world told"},
+    "redone": {"redone": "game world old rows", "reached": "game world old rows", "dies": "game world old rows",
+               "touched_by": "game world old tick house press"},
+    "outcomes": {"open_places": "rows", "filled": "rows presses", "outcomes": "game world rows menu cell",
+                 "hangs_on": "game world rows menu cell", "is_sure": "game world rows menu cell",
+                 "parting": "game world rows menu cell", "islands": "game world rows menu"},
     "scripts": {"is_expression": "told", "is_script": "told", "size_of": "script", "depth_of": "script",
                 "number_of": "expression reads", "plain_run": "script reads", "wants": "script"},
 }
+
+# What tells lists.
+LISTS = ("squares", "run", "outcomes", "islands")
 
 
 def module(name):
@@ -71,14 +83,23 @@ class TestValues(unittest.TestCase):
             "told": self.game, "level": level, "x": 3, "y": 4, "game": self.game, "thing": thing, "trait": "bars",
             "kind": 0, "house": -1, "seed": 7, "cell": 3, "world": self.world, "slot": 0, "slots": (0,), "but": (),
             "presses": self.presses, "deed": (0, 0), "script": self.script, "reads": self.reads,
-            "expression": ("sum", ("x",), ("drawn", 9))}
+            "expression": ("sum", ("x",), ("drawn", 9)), "most": 2, "menu": (0, 2, 63), "tick": 1, "house": 0,
+            "press": 5, "rows": (self.presses, (0,))}
+        trace = module("looks").trace(self.game, self.world, self.values["rows"])
+        notes = trace[0][1]
+        self.values |= {"old": trace, "notes": notes}
+        untold = ((None,), (None,))
+        self.others = {"looks.touches": {"one": notes[0], "other": notes[16]}, "looks.is_trace": {"told": trace},
+                       "outcomes.open_places": {"rows": untold}, "outcomes.filled": {"rows": untold, "presses": (1, 2)},
+                       "outcomes.outcomes": {"rows": untold}, "outcomes.hangs_on": {"rows": untold},
+                       "outcomes.is_sure": {"rows": untold}, "outcomes.parting": {"rows": untold},
+                       "outcomes.islands": {"rows": untold}}
 
     def calls(self):
         for file, functions in INTERFACE.items():
             for name, arguments in functions.items():
-                values = [self.looks(self.world) if argument == "looks" else self.values[argument]
-                          for argument in arguments.split()]
-                yield name, getattr(module(file), name), arguments.split(), values
+                told = self.values | {"looks": self.looks(self.world)} | self.others.get(f"{file}.{name}", {})
+                yield name, getattr(module(file), name), arguments.split(), [told[a] for a in arguments.split()]
 
     def test_what_is_handed_in_stays_as_it_is(self):
         for name, function, _, values in self.calls():
@@ -92,18 +113,22 @@ class TestValues(unittest.TestCase):
 
     def test_tuples_all_the_way_down(self):
         for name, function, _, values in self.calls():
-            if name != "squares":
+            if name not in LISTS:
                 self.assertTrue(is_plain(function(*values)), name)
 
     def test_lists_are_new_and_hold_tuples(self):
-        squares = module("boxes").squares
-        one, other = squares((0, 0, 9, 9), 8), squares((0, 0, 9, 9), 8)
-        self.assertEqual((type(one), one is other), (list, False))
-        self.assertTrue(all(is_plain(part) for part in one))
+        for name, function, _, values in self.calls():
+            if name in LISTS:
+                one, other = function(*values), function(*values)
+                self.assertEqual((type(one), one is other), (list, False), name)
+                for part, second in zip(one, other):
+                    if name == "islands":
+                        self.assertEqual((type(part), part is second), (list, False))
+                    self.assertTrue(is_plain(tuple(part) if name == "islands" else part), name)
 
     def test_truths_are_bools(self):
         for name, function, _, values in self.calls():
-            if name.startswith("is_") or name in ("meet", "has", "lands"):
+            if name.startswith("is_") or name in ("meet", "has", "lands", "touches"):
                 self.assertIs(type(function(*values)), bool, name)
 
     def test_twice_the_same(self):

@@ -6,6 +6,7 @@ from latepresses.boxes import around, gap, grown, meet, squares
 from latepresses.cells import Looks, cells_of, first_world, is_world, kind_of_cell
 from latepresses.floor import lot, meeting, moved_lot, stands_on
 from latepresses.levels import blocks, is_free, is_game, lands, sign_at
+from latepresses.ticks import run, settled, tick
 
 ROWS = ('........', '..=.....', '....^...', '########')
 HERO = ('hero', 6, 8, ('bars', 'falls', 'frail'), (0, 0, 0, 0), ())
@@ -40,3 +41,8 @@ class TestExamples(unittest.TestCase):
         self.assertEqual(told, [(0, 1), (0,), (), -1])
         near = moved_lot(GAME, world, (0,), 2, 0)
         self.assertEqual(lot(GAME, Looks(near), 0, 1, 0), (0, 1))
+
+    def test_ticks(self):
+        world = first_world(GAME, 7)
+        told = [len(run(GAME, world, ((0,), (2,)))), tick(GAME, world, (0,))[16], settled(GAME, world, 5)]
+        self.assertEqual(told, [3, (), 0])

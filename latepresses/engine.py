@@ -14,6 +14,21 @@ def tick_done(game, world, presses):
     return tuple(cells)
 
 
+def worlds_behind(game, world, rows):
+    """Returns the list of the worlds ahead of all ticks of a run, and behind each."""
+    worlds = [world]
+    for presses in rows:
+        worlds.append(tick_done(game, worlds[-1], presses))
+    return worlds
+
+
+def last_world(game, world, rows):
+    """Returns the world behind all ticks of a run."""
+    for presses in rows:
+        world = tick_done(game, world, presses)
+    return world
+
+
 def write(cells, wrote):
     """Puts what a deed wrote into a list of cells."""
     for cell, value in wrote:

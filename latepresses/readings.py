@@ -41,17 +41,17 @@ def number_in(expression, reading):
     if name == "pick":
         chosen = 2 if number_in(expression[1], reading) != 0 else 3
         return number_in(expression[chosen], reading)
-    if name == "not":
-        return 0 if number_in(expression[1], reading) != 0 else 1
-    if name in TWO_SIDED:
-        one = number_in(expression[1], reading)
-        other = number_in(expression[2], reading)
-        return joined_number(name, one, other)
+    if name == "not" or name in TWO_SIDED:
+        return number_made(name, [number_in(part, reading) for part in expression[1:]])
     return kept(read_number(expression, reading), -MOST, MOST)
 
 
-def joined_number(name, one, other):
-    """Returns the number that two sides make."""
+def number_made(name, sides):
+    """Returns the number that two sides make, or one for "not"."""
+    one = sides[0]
+    if name == "not":
+        return 0 if one != 0 else 1
+    other = sides[1]
     if name == "both":
         return 1 if one != 0 and other != 0 else 0
     if name == "either":

@@ -1,7 +1,7 @@
 """Ticks and runs of a game."""
 
 from latepresses.checks import need_run, need_world
-from latepresses.engine import tick_done
+from latepresses.engine import last_world, tick_done, worlds_behind
 from latepresses.errors import InvalidNumber
 
 
@@ -14,18 +14,13 @@ def tick(game, world, presses):
 def run(game, world, rows):
     """Returns the list of the worlds ahead of all ticks, and behind each."""
     need_run(game, world, rows)
-    worlds = [world]
-    for presses in rows:
-        worlds.append(tick_done(game, worlds[-1], presses))
-    return worlds
+    return worlds_behind(game, world, rows)
 
 
 def last(game, world, rows):
     """Returns the world behind all ticks."""
     need_run(game, world, rows)
-    for presses in rows:
-        world = tick_done(game, world, presses)
-    return world
+    return last_world(game, world, rows)
 
 
 def settled(game, world, most):

@@ -62,6 +62,15 @@ def random_script(rng, kinds):
             return script
 
 
+def random_reads(rng):
+    def row(many, end):
+        return tuple(rng.randint(-end, end) for _ in range(many))
+    thing = (rng.randrange(4), rng.randint(-1, 3), *row(2, 200), *row(2, 7), rng.randint(-2, 15), row(4, 999))
+    met = tuple((slot, rng.randrange(4), rng.randint(-1, 3), row(4, 999)) for slot in range(rng.randrange(5)))
+    return (thing, rng.randrange(64), row(16, 999), rng.randrange(65537), met,
+            rng.choice(".#=<>^wg"), rng.choice(".#=<>^wg"))
+
+
 def random_traits(rng):
     traits = [trait for trait in TRAITS if rng.random() < 0.55]
     if "bars" not in traits:

@@ -30,12 +30,20 @@ INTERFACE = {
     "outcomes": {"open_places": "rows", "filled": "rows presses", "outcomes": "game world rows menu cell",
                  "hangs_on": "game world rows menu cell", "is_sure": "game world rows menu cell",
                  "parting": "game world rows menu cell", "islands": "game world rows menu"},
+    "kept": {"cost": "plan tick", "total": "plan weights", "best_plan": "weights room", "best_worst": "many room",
+             "worlds_kept": "game world rows plan", "world_at": "game kept rows tick"},
+    "sums": {"thing_sum": "value", "stretch_sum": "world first last", "chained": "worlds", "parted": "one other"},
+    "compiler": {"compiled": "script", "run": "script reads", "run_code": "code reads", "shorter": "code",
+                 "script_of": "code"},
+    "presses": {"is_known": "told", "known_to": "known", "is_known_at": "known tick", "guess_at": "known tick",
+                "learned": "known first row ends", "guesses": "knowns tick", "guessed_rows": "knowns end",
+                "sure_to": "knowns", "first_unlike": "elder newer begin end"},
     "scripts": {"is_expression": "told", "is_script": "told", "size_of": "script", "depth_of": "script",
                 "number_of": "expression reads", "plain_run": "script reads", "wants": "script"},
 }
 
 # What tells lists.
-LISTS = ("squares", "run", "outcomes", "islands")
+LISTS = ("boxes.squares", "ticks.run", "outcomes.outcomes", "outcomes.islands", "sums.chained")
 
 
 def module(name):
@@ -84,7 +92,11 @@ class TestValues(unittest.TestCase):
             "kind": 0, "house": -1, "seed": 7, "cell": 3, "world": self.world, "slot": 0, "slots": (0,), "but": (),
             "presses": self.presses, "deed": (0, 0), "script": self.script, "reads": self.reads,
             "expression": ("sum", ("x",), ("drawn", 9)), "most": 2, "menu": (0, 2, 63), "tick": 1, "house": 0,
-            "press": 5, "rows": (self.presses, (0,))}
+            "press": 5, "rows": (self.presses, (0,)), "plan": (0, 2), "weights": (1, 2, 3), "room": 2, "many": 7,
+            "kept": ((0, self.world), (2, self.world)), "value": self.world, "first": 1, "last": 4,
+            "worlds": (self.world, self.world), "code": module("compiler").compiled(self.script),
+            "known": (((0, 5), (3, 6)), None), "row": (6, 7), "ends": 9, "begin": 0, "end": 8,
+            "knowns": ((((0, 5), (3, 6)), None), ((), 4)), "elder": (((), None),), "newer": ((((3, 6),), None),)}
         trace = module("looks").trace(self.game, self.world, self.values["rows"])
         notes = trace[0][1]
         self.values |= {"old": trace, "notes": notes}
@@ -93,13 +105,15 @@ class TestValues(unittest.TestCase):
                        "outcomes.open_places": {"rows": untold}, "outcomes.filled": {"rows": untold, "presses": (1, 2)},
                        "outcomes.outcomes": {"rows": untold}, "outcomes.hangs_on": {"rows": untold},
                        "outcomes.is_sure": {"rows": untold}, "outcomes.parting": {"rows": untold},
-                       "outcomes.islands": {"rows": untold}}
+                       "outcomes.islands": {"rows": untold}, "presses.is_known": {"told": self.values["known"]},
+                       "sums.parted": {"one": (self.world,), "other": (self.world[:-1] + (5,),)}}
 
     def calls(self):
         for file, functions in INTERFACE.items():
             for name, arguments in functions.items():
                 told = self.values | {"looks": self.looks(self.world)} | self.others.get(f"{file}.{name}", {})
-                yield name, getattr(module(file), name), arguments.split(), [told[a] for a in arguments.split()]
+                values = [told[argument] for argument in arguments.split()]
+                yield f"{file}.{name}", getattr(module(file), name), arguments.split(), values
 
     def test_what_is_handed_in_stays_as_it_is(self):
         for name, function, _, values in self.calls():
@@ -122,13 +136,13 @@ class TestValues(unittest.TestCase):
                 one, other = function(*values), function(*values)
                 self.assertEqual((type(one), one is other), (list, False), name)
                 for part, second in zip(one, other):
-                    if name == "islands":
+                    if name == "outcomes.islands":
                         self.assertEqual((type(part), part is second), (list, False))
-                    self.assertTrue(is_plain(tuple(part) if name == "islands" else part), name)
+                    self.assertTrue(is_plain(tuple(part) if name == "outcomes.islands" else part), name)
 
     def test_truths_are_bools(self):
         for name, function, _, values in self.calls():
-            if name.startswith("is_") or name in ("meet", "has", "lands", "touches"):
+            if ".is_" in name or name in ("boxes.meet", "things.has", "levels.lands", "looks.touches"):
                 self.assertIs(type(function(*values)), bool, name)
 
     def test_twice_the_same(self):

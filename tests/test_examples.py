@@ -5,6 +5,7 @@ import unittest
 from latepresses.boxes import around, gap, grown, meet, squares
 from latepresses.cells import Looks, cells_of, first_world, is_world, kind_of_cell
 from latepresses.floor import lot, meeting, moved_lot, stands_on
+from latepresses.kept import best_plan, best_worst, cost, total
 from latepresses.levels import blocks, is_free, is_game, lands, sign_at
 from latepresses.ticks import run, settled, tick
 
@@ -46,3 +47,7 @@ class TestExamples(unittest.TestCase):
         world = first_world(GAME, 7)
         told = [len(run(GAME, world, ((0,), (2,)))), tick(GAME, world, (0,))[16], settled(GAME, world, 5)]
         self.assertEqual(told, [3, (), 0])
+
+    def test_kept(self):
+        told = [cost((0, 4), 6), total((0, 4), (1,) * 6), best_plan((1,) * 6, 2), best_worst(7, 2)]
+        self.assertEqual(told, [2, 7, (0, 3), (3, (0, 3))])

@@ -3,7 +3,7 @@
 import random
 import unittest
 
-from samples import random_expression, random_script
+from samples import random_expression, random_reads, random_script
 from slow_engine import run_script
 
 from latepresses.scripts import number_of, plain_run, wants
@@ -206,24 +206,16 @@ class TestRuns(unittest.TestCase):
 
 
 class TestAgainstAnotherEngine(unittest.TestCase):
-    def random_reads(self, rng):
-        def row(many, end):
-            return tuple(rng.randint(-end, end) for _ in range(many))
-        thing = (rng.randrange(4), rng.randint(-1, 3), *row(2, 200), *row(2, 7), rng.randint(-2, 15), row(4, 999))
-        met = tuple((slot, rng.randrange(4), rng.randint(-1, 3), row(4, 999)) for slot in range(rng.randrange(5)))
-        return (thing, rng.randrange(64), row(16, 999), rng.randrange(65537), met,
-                rng.choice(".#=<>^wg"), rng.choice(".#=<>^wg"))
-
     def test_random_scripts(self):
         rng = random.Random(5)
         for _ in range(1500):
-            script, told = random_script(rng, 4), self.random_reads(rng)
+            script, told = random_script(rng, 4), random_reads(rng)
             self.assertEqual(plain_run(script, told), run_script(script, told))
 
     def test_a_run_reads_just_what_is_wanted(self):
         rng = random.Random(6)
         for _ in range(500):
-            script, told = random_script(rng, 4), self.random_reads(rng)
+            script, told = random_script(rng, 4), random_reads(rng)
             marks, seed, met = wants(script)
             less = (*told[:2], tuple(told[2][at] if at in marks else None for at in range(16)),
                     told[3] if seed else None, told[4] if met else (), *told[5:])
@@ -232,5 +224,5 @@ class TestAgainstAnotherEngine(unittest.TestCase):
     def test_random_expressions_stay_within_the_range(self):
         rng = random.Random(7)
         for _ in range(1000):
-            told = number_of(random_expression(rng, 4, 5), self.random_reads(rng))
+            told = number_of(random_expression(rng, 4, 5), random_reads(rng))
             self.assertTrue(-999999 <= told[0] <= 999999 and 0 <= told[1] <= 65536)

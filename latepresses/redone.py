@@ -1,7 +1,7 @@
 """Runs that are done again with other presses: just the deeds for which something came otherwise."""
 
 from latepresses.cells import unlike
-from latepresses.checks import need_presses, need_run, need_world
+from latepresses.checks import need_presses, need_run
 from latepresses.engine import run_redone
 from latepresses.errors import InvalidNumber, InvalidRows, InvalidTrace
 from latepresses.looks import behind, is_trace
@@ -32,7 +32,6 @@ def dies(game, world, old, rows):
 
 def touched_by(game, world, old, tick, house, press):
     """Returns what `reached` tells of the old run with one press put."""
-    need_world(game, world)
     _need_trace(game, world, old)
     if not is_between(tick, 0, len(old) - 1):
         raise InvalidNumber(tick)
@@ -45,7 +44,7 @@ def touched_by(game, world, old, tick, house, press):
 
 
 def _need_trace(game, world, old):
-    """Raises InvalidTrace if this is not the trace of its presses."""
+    """Raises InvalidTrace if this is not the trace of its presses, and ahead of it what `is_trace` raises."""
     if not is_trace(game, world, old):
         raise InvalidTrace(old)
 

@@ -177,6 +177,11 @@ class TestShorter(Case):
                    (x, ("nought", 1), ("gone",), push(3), ("own", 0)))
         self.check((x, ("nought", 1), ("gone",), push(1), ("do", "not"), ("own", 0)),
                    (x, ("nought", 1), ("gone",), push(0), ("own", 0)))
+        # So may what is behind them.
+        self.check((x, ("nought", 2), push(5), ("over", 3), push(1), push(2), ("do", "sum"), ("own", 0)),
+                   (x, ("nought", 2), push(5), ("over", 1), push(3), ("own", 0)))
+        self.check((x, ("nought", 2), push(5), ("over", 2), push(1), ("do", "not"), ("own", 0)),
+                   (x, ("nought", 2), push(5), ("over", 1), push(0), ("own", 0)))
         # Not the second one, nor the "do".
         for code in ((x, ("nought", 2), push(1), ("over", 1), push(2), ("do", "not"), ("own", 0)),
                      (push(5), x, ("nought", 2), push(1), ("over", 1), push(2), ("do", "sum"), ("own", 0))):

@@ -143,10 +143,11 @@ class TestSettled(Case):
             self.assertIsNone(settled(GAME, WORLD, most))
 
     def test_without_presses(self):
-        rules = (("when", ("held", 5), (("mark", 0, ("sum", ("mark", 0), ("number", 1))),), ()),)
-        game = ((("....",) * 3, ((0, 0, 0, 0),), 1, 0), (("dot", 4, 4, (), (0, 0, 0, 0), rules),))
-        self.assertEqual(settled(game, first(game), 4), 0)
-        self.assertEqual(tick(game, first(game), (32,))[33], 1)
+        for key in range(6):
+            rules = (("when", ("held", key), (("mark", 0, ("sum", ("mark", 0), ("number", 1))),), ()),)
+            game = ((("....",) * 3, ((0, 0, 0, 0),), 1, 0), (("dot", 4, 4, (), (0, 0, 0, 0), rules),))
+            self.assertEqual(settled(game, first(game), 4), 0)
+            self.assertEqual(tick(game, first(game), (2 ** key,))[33], 1)
 
     def test_a_change_of_one_cell_is_a_change(self):
         rules = (("mark", 15, ("least", ("number", 3), ("sum", ("mark", 15), ("number", 1)))),)

@@ -62,6 +62,17 @@ def run_noted(game, world, rows):
     return tuple(ticks)
 
 
+def worlds_noted(world, ticks):
+    """Returns the tuple of the worlds ahead of all ticks of a trace, and behind each."""
+    worlds = [world]
+    cells = list(world)
+    for _, notes in ticks:
+        for _, _, wrote in notes:
+            write(cells, wrote)
+        worlds.append(tuple(cells))
+    return tuple(worlds)
+
+
 def run_redone(game, world, old, rows):
     """Returns (trace, again): the trace of other presses, and the (tick, index) of what was done again for it."""
     cells = list(world)

@@ -24,3 +24,8 @@ def ascends(row):
 def kept(number, low, high):
     """Returns the number from low to high that is nearest."""
     return max(low, min(high, number))
+
+
+def with_part(row, at, part):
+    """Returns a tuple with another part at a place."""
+    return row[:at] + (part,) + row[at + 1:]

@@ -1,7 +1,9 @@
 """What is known of the presses of houses, and what is guessed."""
 
 from latepresses.checks import is_press
-from latepresses.errors import Clash, InvalidKnown, InvalidPress, InvalidTick
+from latepresses.errors import InvalidKnown, InvalidPress, InvalidTick
+from latepresses.guessing import first_other_guess, guess_of, guess_rows, is_behind, known_end, least_end
+from latepresses.guessing import with_row
 from latepresses.plain import ascends, is_whole
 
 
@@ -30,17 +32,7 @@ def _is_tick(told):
 def known_to(known):
     """Returns the least tick that is not known, None if there is none."""
     _need_known((known,))
-    return _known_to(known)
-
-
-def _known_to(known):
-    """Returns the least tick that is not in what is right known."""
-    row, ends = known
-    many = 0
-    for tick, _ in row:
-        if tick == many:
-            many += 1
-    return None if many == ends else many
+    return known_end(known)
 
 
 def is_known_at(known, tick):
@@ -48,31 +40,14 @@ def is_known_at(known, tick):
     _need_known((known,))
     _need_tick(tick)
     row, ends = known
-    return _is_behind(tick, ends) or any([made == tick for made, _ in row])
-
-
-def _is_behind(tick, ends):
-    """Returns True if a house has left at a tick."""
-    return ends is not None and tick >= ends
+    return is_behind(tick, ends) or any([made == tick for made, _ in row])
 
 
 def guess_at(known, tick):
     """Returns the press that is guessed at a tick."""
     _need_known((known,))
     _need_tick(tick)
-    return _guess_at(known, tick)
-
-
-def _guess_at(known, tick):
-    """Returns the guess by what is right known."""
-    row, ends = known
-    if _is_behind(tick, ends):
-        return 0
-    guess = 0
-    for made, press in row:
-        if made <= tick:
-            guess = press
-    return guess
+    return guess_of(known, tick)
 
 
 def learned(known, first, row, ends):
@@ -84,49 +59,27 @@ def learned(known, first, row, ends):
     _need_tick(first)
     if ends is not None:
         _need_tick(ends)
-    presses = {tick: press for tick, press in known[0]}
-    clashes = _ends_that_clash(known[1], ends)
-    for tick, press in enumerate(row, start=first):
-        if presses.setdefault(tick, press) != press:
-            clashes.append(tick)
-    end = ends if known[1] is None else known[1]
-    clashes.extend([tick for tick in presses if _is_behind(tick, end) and presses[tick] != 0])
-    if clashes:
-        raise Clash(min(clashes))
-    return (tuple([(tick, presses[tick]) for tick in sorted(presses) if not _is_behind(tick, end)]), end)
-
-
-def _ends_that_clash(one, other):
-    """Returns the list of the lesser one of two ends that differ, of none if they do not."""
-    if one is None or other is None or one == other:
-        return []
-    return [min(one, other)]
+    return with_row(known, first, row, ends)
 
 
 def guesses(knowns, tick):
     """Returns the tuple of the guesses at a tick, one a house."""
     _need_known(knowns)
     _need_tick(tick)
-    return _guesses(knowns, tick)
-
-
-def _guesses(knowns, tick):
-    """Returns the tuple of the guesses at a tick by what is right known."""
-    return tuple([_guess_at(known, tick) for known in knowns])
+    return tuple([guess_of(known, tick) for known in knowns])
 
 
 def guessed_rows(knowns, end):
     """Returns the tuple of the guesses of all ticks below an end."""
     _need_known(knowns)
     _need_tick(end)
-    return tuple([_guesses(knowns, tick) for tick in range(end)])
+    return guess_rows(knowns, end)
 
 
 def sure_to(knowns):
     """Returns the least tick that is not known of all, None if there is none."""
     _need_known(knowns)
-    ticks = [_known_to(known) for known in knowns]
-    return min([tick for tick in ticks if tick is not None], default=None)
+    return least_end(knowns)
 
 
 def first_unlike(elder, newer, begin, end):
@@ -135,10 +88,7 @@ def first_unlike(elder, newer, begin, end):
     _need_known(newer)
     _need_tick(begin)
     _need_tick(end)
-    for tick in range(begin, end):
-        if _guesses(elder, tick) != _guesses(newer, tick):
-            return tick
-    return None
+    return first_other_guess(elder, newer, begin, end)
 
 
 def _need_known(knowns):

@@ -5,7 +5,7 @@ from latepresses.checks import need_presses, need_run
 from latepresses.engine import run_redone
 from latepresses.errors import InvalidNumber, InvalidRows, InvalidTrace
 from latepresses.looks import behind, is_trace
-from latepresses.plain import is_between
+from latepresses.plain import is_between, with_part
 
 
 def redone(game, world, old, rows):
@@ -38,7 +38,7 @@ def touched_by(game, world, old, tick, house, press):
     if not is_between(house, 0, game[0][2] - 1):
         raise InvalidNumber(house)
     rows = [presses for presses, _ in old]
-    rows[tick] = rows[tick][:house] + (press,) + rows[tick][house + 1:]
+    rows[tick] = with_part(rows[tick], house, press)
     need_presses(game, rows[tick])
     return _reached_cells(game, world, old, rows)
 

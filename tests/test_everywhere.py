@@ -38,8 +38,22 @@ INTERFACE = {
     "presses": {"is_known": "told", "known_to": "known", "is_known_at": "known tick", "guess_at": "known tick",
                 "learned": "known first row ends", "guesses": "knowns tick", "guessed_rows": "knowns end",
                 "sure_to": "knowns", "first_unlike": "elder newer begin end"},
+    "letters": {"is_letter": "told", "letter": "house known first heard", "put": "bag to letter", "taken": "bag k",
+                "doubled": "bag k", "size_in_bits": "letter"},
+    "papers": {"paper_of": "play every", "is_paper": "told"},
     "scripts": {"is_expression": "told", "is_script": "told", "size_of": "script", "depth_of": "script",
                 "number_of": "expression reads", "plain_run": "script reads", "wants": "script"},
+}
+
+# Each class with the arguments of its objects, those of its methods, and its properties.
+CLASSES = {
+    "cells.Looks": ("world", {"at": "cell", "seen": ""}, ""),
+    "houses.House": ("game world many watchers who delay lead",
+                     {"must_wait": "", "go": "press", "hear": "letter", "letters": "", "leave": "", "fall": "",
+                      "worlds": "", "twin": ""}, "now world sure sure_world knowns lags"),
+    "plays.Play": ("game world many watchers delay lead",
+                   {"house": "h", "choose": "choice", "choose_all": "choices", "plain_world": "tick", "sure_all": "",
+                    "going_on": "", "twin": "", "bound": ""}, "bag made"),
 }
 
 # What tells lists.
@@ -67,11 +81,16 @@ class TestInterface(unittest.TestCase):
                 self.assertEqual(list(inspect.signature(function).parameters), arguments.split(), name)
 
     def test_methods_are_defined_in_their_classes(self):
-        looks = module("cells").Looks
-        self.assertEqual(looks.__module__, "latepresses.cells")
-        for name, arguments in (("__init__", "self world"), ("at", "self cell"), ("seen", "self")):
-            self.assertIn(name, vars(looks))
-            self.assertEqual(list(inspect.signature(vars(looks)[name]).parameters), arguments.split())
+        for place, (arguments, methods, properties) in CLASSES.items():
+            file, name = place.split(".")
+            told = getattr(module(file), name)
+            self.assertEqual((inspect.isclass(told), told.__module__), (True, "latepresses." + file))
+            for method, wanted in (("__init__", arguments), *methods.items()):
+                self.assertTrue(inspect.isfunction(vars(told)[method]), method)
+                self.assertEqual(list(inspect.signature(vars(told)[method]).parameters), ["self", *wanted.split()])
+            for attribute in properties.split():
+                self.assertIsInstance(vars(told)[attribute], property)
+                self.assertIsNone(vars(told)[attribute].fset)
 
 
 class TestValues(unittest.TestCase):
@@ -96,7 +115,11 @@ class TestValues(unittest.TestCase):
             "kept": ((0, self.world), (2, self.world)), "value": self.world, "first": 1, "last": 4,
             "worlds": (self.world, self.world), "code": module("compiler").compiled(self.script),
             "known": (((0, 5), (3, 6)), None), "row": (6, 7), "ends": 9, "begin": 0, "end": 8,
-            "knowns": ((((0, 5), (3, 6)), None), ((), 4)), "elder": (((), None),), "newer": ((((3, 6),), None),)}
+            "knowns": ((((0, 5), (3, 6)), None), ((), 4)), "elder": (((), None),), "newer": ((((3, 6),), None),),
+            "letter": (1, 4, (1, 0), None, (4, 2)), "bag": ((0, (1, 4, (1, 0), None, (4, 2))), (1, (0, 0, (), 0, ()))),
+            "to": 2, "k": 1, "heard": (2, 3), "every": 2,
+            "play": module("plays").Play(self.game, self.world, 1, 1, 3, 4)}
+        self.values["play"].choose_all((("go", 0, 5), ("go", 1, 6)))
         trace = module("looks").trace(self.game, self.world, self.values["rows"])
         notes = trace[0][1]
         self.values |= {"old": trace, "notes": notes}
@@ -105,6 +128,8 @@ class TestValues(unittest.TestCase):
                        "outcomes.open_places": {"rows": untold}, "outcomes.filled": {"rows": untold, "presses": (1, 2)},
                        "outcomes.outcomes": {"rows": untold}, "outcomes.hangs_on": {"rows": untold},
                        "outcomes.is_sure": {"rows": untold}, "outcomes.parting": {"rows": untold},
+                       "letters.is_letter": {"told": self.values["letter"]},
+                       "papers.is_paper": {"told": (self.world, ((0,),), ((0, 5), (1, 6)))},
                        "outcomes.islands": {"rows": untold}, "presses.is_known": {"told": self.values["known"]},
                        "sums.parted": {"one": (self.world,), "other": (self.world[:-1] + (5,),)}}
 
@@ -117,9 +142,9 @@ class TestValues(unittest.TestCase):
 
     def test_what_is_handed_in_stays_as_it_is(self):
         for name, function, _, values in self.calls():
-            kept = copy.deepcopy([value for value in values if not isinstance(value, self.looks)])
+            kept = copy.deepcopy([value for value in values if is_plain(value) or type(value) is list])
             function(*values)
-            self.assertEqual([value for value in values if not isinstance(value, self.looks)], kept, name)
+            self.assertEqual([value for value in values if is_plain(value) or type(value) is list], kept, name)
 
     def test_by_position_and_by_name(self):
         for name, function, arguments, values in self.calls():

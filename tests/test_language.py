@@ -28,6 +28,11 @@ EXPRESSIONS = (ast.BoolOp, ast.BinOp, ast.UnaryOp, ast.IfExp, ast.Dict, ast.List
                ast.Tuple, ast.Slice, ast.Lambda, ast.JoinedStr, ast.FormattedValue)
 FILES = sorted(PACKAGE.glob("*.py"))
 TREES = {file.stem: ast.parse(file.read_text()) for file in FILES}
+METHODS = [node for tree in TREES.values() for part in tree.body if isinstance(part, ast.ClassDef)
+           for node in part.body if isinstance(node, ast.FunctionDef)]
+PROPERTIES = [node for node in METHODS if [ast.unparse(part) for part in node.decorator_list] == ["property"]]
+# The interface calls a function and an argument of others of its file alike; only classes and imports are barred.
+ALIKE = {("letters", "letter")}
 
 
 def bound_at_top(tree):
@@ -136,7 +141,30 @@ class TestCode(unittest.TestCase):
                 elif isinstance(node, ast.expr):
                     self.assertIsInstance(node, EXPRESSIONS, name)
                 self.assertFalse(isinstance(node, (ast.Div, ast.MatMult)), name)
-                self.assertEqual(getattr(node, "decorator_list", []), [], name)
+                if node not in PROPERTIES:
+                    self.assertEqual(getattr(node, "decorator_list", []), [], name)
+
+    def test_properties_only_return_something(self):
+        stored = {node.attr for tree in TREES.values() for node in ast.walk(tree)
+                  if isinstance(node, ast.Attribute) and not isinstance(node.ctx, ast.Load)}
+        methods = {node.name for node in METHODS if node not in PROPERTIES}
+        for node in PROPERTIES:
+            self.assertEqual([argument.arg for argument in node.args.args], ["self"], node.name)
+            self.assertFalse(node.name in stored | methods | VALUE_METHODS, node.name)
+            for part in node.body[1:]:
+                self.assertIsInstance(part, (ast.Assign, ast.Return), node.name)
+                for inner in ast.walk(part):
+                    self.assertFalse(isinstance(inner, ast.Call) and isinstance(inner.func, ast.Attribute), node.name)
+                    self.assertFalse(isinstance(inner, ast.Attribute) and not isinstance(inner.ctx, ast.Load), node.name)
+
+    def test_methods_and_attributes_have_names_of_their_own(self):
+        for name, tree in TREES.items():
+            for part in [part for part in tree.body if isinstance(part, ast.ClassDef)]:
+                methods = [node.name for node in part.body if isinstance(node, ast.FunctionDef)]
+                stored = {node.attr for node in ast.walk(part) if isinstance(node, ast.Attribute)
+                          and not isinstance(node.ctx, ast.Load)}
+                self.assertEqual(len(methods), len(set(methods)), part.name)
+                self.assertEqual(set(methods) & stored, set(), part.name)
 
     def test_is_stands_beside_none_true_and_false(self):
         for name, tree in TREES.items():
@@ -150,12 +178,13 @@ class TestCode(unittest.TestCase):
             barred = {alias.name for node in imports(tree) for alias in node.names}
             barred |= {node.name for node in tree.body if isinstance(node, (ast.FunctionDef, ast.ClassDef))}
             barred |= set(dir(builtins))
+            barred -= {alike for file, alike in ALIKE if file == name}
             for function in functions(tree):
                 self.assertEqual(local_names(function) & barred, set(), (name, function.name))
 
     def test_only_some_builtins(self):
         for name, tree in TREES.items():
-            known = set(bound_at_top(tree)) | {"self"}
+            known = set(bound_at_top(tree)) | {"self", "property"}
             for function in functions(tree):
                 for node in ast.walk(function):
                     if isinstance(node, ast.Name) and isinstance(node.ctx, ast.Load):

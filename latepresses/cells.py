@@ -1,15 +1,15 @@
 """Worlds: rows of cells, and looks at them."""
 
-from latepresses.bodies import body_box, has_trait, is_body, is_fallen, new_body, with_rest
-from latepresses.boxes import meet
+from latepresses.bodies import is_body, new_body, with_rest
 from latepresses.buckets import buckets_of, put_thing
 from latepresses.drafts import Sheet
 from latepresses.errors import InvalidCell, InvalidNumber, InvalidPair, InvalidSlot, InvalidThing
 from latepresses.floor import stands_on
-from latepresses.ground import block_counts, is_clear
+from latepresses.ground import block_counts
 from latepresses.levels import need_game
 from latepresses.limits import BUCKET, MARK, MARKS, MET, MOST_SEED, MOST_SET, SEED, SLOTS
-from latepresses.plain import ascends, is_between, is_row
+from latepresses.plain import is_between
+from latepresses.rightness import are_met, right_buckets, stands_right
 
 
 def cells_of(game):
@@ -50,7 +50,7 @@ def wrong_cell(game, told):
     for cell, value in enumerate(told[:BUCKET]):
         if not _is_right(game, told, cell, value):
             return cell
-    for cell, bucket in enumerate(_right_buckets(game, told), start=BUCKET):
+    for cell, bucket in enumerate(right_buckets(game, told), start=BUCKET):
         if cell < len(told) and told[cell] != bucket:
             return cell
     if len(told) == _count(game):
@@ -61,47 +61,12 @@ def wrong_cell(game, told):
 def _is_right(game, told, cell, value):
     """Returns True if a cell ahead of the buckets is right beside those ahead of it."""
     if cell < MET:
-        return value is None or _stands_right(game, told, cell)
+        return value is None or stands_right(game, told, cell)
     if cell < SEED:
-        return _is_met(told[cell - MET], cell - MET, value)
+        return are_met(told[cell - MET], cell - MET, value)
     if cell == SEED:
         return is_between(value, 0, MOST_SEED)
     return is_between(value, -MOST_SET, MOST_SET)
-
-
-def _stands_right(game, told, slot):
-    """Returns True if a slot has a thing that is free, on the floor, and not within one ahead of it."""
-    thing = told[slot]
-    if not is_body(game, thing) or is_fallen(game, thing):
-        return False
-    box = body_box(game, thing)
-    if not is_clear(game[0], box):
-        return False
-    if not has_trait(game, thing, "bars"):
-        return True
-    for other in told[:slot]:
-        if other is not None and has_trait(game, other, "bars") and meet(box, body_box(game, other)):
-            return False
-    return True
-
-
-def _is_met(thing, slot, value):
-    """Returns True if these are slots that the thing of a slot can have met."""
-    if not is_row(value, 0, SLOTS - 1):
-        return False
-    if thing is None:
-        return value == ()
-    return slot not in value and ascends(value)
-
-
-def _right_buckets(game, told):
-    """Returns the list of the buckets that the slots want."""
-    buckets = [[] for _ in range(_count(game) - BUCKET)]
-    for slot, thing in enumerate(told[:SLOTS]):
-        if thing is not None:
-            for cell in buckets_of(game, body_box(game, thing)):
-                buckets[cell - BUCKET].append(slot)
-    return [tuple(bucket) for bucket in buckets]
 
 
 def kind_of_cell(game, cell):

@@ -1,16 +1,18 @@
 """Levels, kinds and games, and what the floor is made of."""
 
-from latepresses.boxes import meet
 from latepresses.errors import InvalidGame, InvalidLevel
 from latepresses.forms import is_sign, kinds_in
-from latepresses.ground import block_counts, extent, is_below, is_clear, is_held_up, sign_of_unit
+from latepresses.ground import block_counts, extent, is_clear, is_held_up, sign_of_unit
 from latepresses.limits import MOST_SET, NO_HOUSE
-from latepresses.plain import ascends, is_between, is_row, is_whole
+from latepresses.plain import ascends, is_between, is_name, is_row, is_whole
+from latepresses.rightness import starts_stand_right
 from latepresses.scripts import is_script
 
-LETTERS = "abcdefghijklmnopqrstuvwxyz"
 TRAITS = ("bars", "carries", "falls", "frail", "pushed")
+LEAST_ROWS = 3
+MOST_ROWS = 16
 MOST_STARTS = 12
+MOST_KINDS = 8
 
 
 def is_level(told):
@@ -25,7 +27,7 @@ def is_level(told):
 
 def _are_rows(rows):
     """Returns True if these are the rows of a floor."""
-    if not isinstance(rows, tuple) or not is_between(len(rows), 3, 16):
+    if not isinstance(rows, tuple) or not is_between(len(rows), LEAST_ROWS, MOST_ROWS):
         return False
     return all([_is_row_of_signs(row) and len(row) == len(rows[0]) for row in rows])
 
@@ -58,19 +60,12 @@ def is_kind(told):
     name, wide, high, traits, own, rules = told
     if not is_between(wide, 1, 16) or not is_between(high, 1, 16):
         return False
-    return _is_name(name) and _are_traits(traits) and _is_own(own) and is_script(rules)
+    return is_name(name) and _are_traits(traits) and _is_own(own) and is_script(rules)
 
 
 def _is_own(own):
     """Returns True if these are own numbers."""
     return is_row(own, -MOST_SET, MOST_SET) and len(own) == 4
-
-
-def _is_name(name):
-    """Returns True if this is the name of a kind."""
-    if not isinstance(name, str) or not is_between(len(name), 1, 8):
-        return False
-    return all([letter in LETTERS for letter in name])
 
 
 def _are_traits(traits):
@@ -87,12 +82,12 @@ def is_game(told):
     if not isinstance(told, tuple) or len(told) != 2:
         return False
     level, kinds = told
-    return is_level(level) and _are_kinds(kinds) and _starts_stand_right(level, kinds)
+    return is_level(level) and _are_kinds(kinds) and starts_stand_right(level, kinds)
 
 
 def _are_kinds(kinds):
     """Returns True if these are kinds, each of another name, whose scripts tell of these alone."""
-    if not isinstance(kinds, tuple) or not is_between(len(kinds), 1, 8):
+    if not isinstance(kinds, tuple) or not is_between(len(kinds), 1, MOST_KINDS):
         return False
     names = {}
     for kind in kinds:
@@ -101,23 +96,6 @@ def _are_kinds(kinds):
         names[kind[0]] = True
         if any([index >= len(kinds) for index in kinds_in(kind[5])]):
             return False
-    return True
-
-
-def _starts_stand_right(level, kinds):
-    """Returns True if the starts are of these kinds, free, on the floor, and do not bar one another."""
-    barring = []
-    for index, _, x, y in level[1]:
-        if not is_between(index, 0, len(kinds) - 1):
-            return False
-        kind = kinds[index]
-        box = (x, y, kind[1], kind[2])
-        if not is_clear(level, box) or is_below(level, box):
-            return False
-        if "bars" in kind[3]:
-            if any([meet(box, other) for other in barring]):
-                return False
-            barring.append(box)
     return True
 
 

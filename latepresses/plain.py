@@ -1,4 +1,7 @@
-"""Small questions about numbers and rows of numbers."""
+"""Small questions about numbers, names, and rows of numbers."""
+
+LETTERS = "abcdefghijklmnopqrstuvwxyz"
+MOST_LETTERS = 8
 
 
 def is_whole(told):
@@ -14,6 +17,13 @@ def is_between(told, low, high):
 def is_row(told, low, high):
     """Returns True if it is a tuple of integers from low to high."""
     return isinstance(told, tuple) and all([is_between(number, low, high) for number in told])
+
+
+def is_name(told):
+    """Returns True if it is a name: a text of one to eight letters."""
+    if not isinstance(told, str) or not 1 <= len(told) <= MOST_LETTERS:
+        return False
+    return all([letter in LETTERS for letter in told])
 
 
 def ascends(row):

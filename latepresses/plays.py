@@ -22,6 +22,11 @@ class Play:
         self._bag = ()
 
     @property
+    def game(self):
+        """Returns the game that is played."""
+        return self._settings[0]
+
+    @property
     def bag(self):
         """Returns the tuple of the (to, letter) that are under way."""
         return self._bag

@@ -41,6 +41,12 @@ INTERFACE = {
     "letters": {"is_letter": "told", "letter": "house known first heard", "put": "bag to letter", "taken": "bag k",
                 "doubled": "bag k", "size_in_bits": "letter"},
     "papers": {"paper_of": "play every", "is_paper": "told"},
+    "judge": {"first_wrong": "game paper", "takes": "game paper", "agrees": "game paper house"},
+    "replays": {"packed": "rows", "unpacked": "told"},
+    "texts": {"show_expression": "expression", "show_script": "script", "show_rows": "rows", "show_world": "world",
+              "show_game": "game", "show_letter": "letter", "show_paper": "paper"},
+    "readers": {"read_script": "text", "read_rows": "text", "read_game": "text", "read_letter": "text",
+                "read_world": "game text", "read_paper": "game text"},
     "scripts": {"is_expression": "told", "is_script": "told", "size_of": "script", "depth_of": "script",
                 "number_of": "expression reads", "plain_run": "script reads", "wants": "script"},
 }
@@ -54,6 +60,15 @@ CLASSES = {
     "plays.Play": ("game world many watchers delay lead",
                    {"house": "h", "choose": "choice", "choose_all": "choices", "plain_world": "tick", "sure_all": "",
                     "going_on": "", "twin": "", "bound": ""}, "bag made"),
+    "replays.Replay": ("game world rows",
+                       {"__len__": "", "sought": "tick", "cut": "begin end", "joined": "other", "pressed": "tick house press",
+                        "first_parted": "other"}, "game world rows"),
+    "consoles.Console": ("", {
+        "__len__": "", "names": "", "keep_game": "name game",
+        "keep_play": "name game_name seed many watchers delay lead", "choose": "name choice",
+        "keep_replay": "name play_name", "other_press": "name tick house press", "cut_to": "name begin end", "drop": "name",
+        "undo": "", "house": "name h", "sure_of": "name", "sought": "name tick", "parted": "one other", "judged": "name every",
+        "order": "text"}, ""),
 }
 
 # What tells lists.
@@ -120,14 +135,21 @@ class TestValues(unittest.TestCase):
             "to": 2, "k": 1, "heard": (2, 3), "every": 2,
             "play": module("plays").Play(self.game, self.world, 1, 1, 3, 4)}
         self.values["play"].choose_all((("go", 0, 5), ("go", 1, 6)))
+        paper = (self.world, ((5,), (6,)), ((0, 7), (2, 8)))
+        show = module("texts")
         trace = module("looks").trace(self.game, self.world, self.values["rows"])
         notes = trace[0][1]
         self.values |= {"old": trace, "notes": notes}
         untold = ((None,), (None,))
-        self.others = {"looks.touches": {"one": notes[0], "other": notes[16]}, "looks.is_trace": {"told": trace},
+        self.values["paper"] = paper
+        texts = {"script": show.show_script(self.script), "rows": "1,2 ?,3", "game": show.show_game(self.game),
+                 "letter": "0 4 - 1,0 4,2", "world": show.show_world(self.world), "paper": show.show_paper(paper)}
+        self.others = {"judge.agrees": {"house": self.values["play"].house(0)},
+                       "replays.unpacked": {"told": ((2, (5,)), (1, (6,)))}, "looks.touches": {"one": notes[0], "other": notes[16]}, "looks.is_trace": {"told": trace},
                        "outcomes.open_places": {"rows": untold}, "outcomes.filled": {"rows": untold, "presses": (1, 2)},
                        "outcomes.outcomes": {"rows": untold}, "outcomes.hangs_on": {"rows": untold},
                        "outcomes.is_sure": {"rows": untold}, "outcomes.parting": {"rows": untold},
+                       **{f"readers.read_{name}": {"text": text} for name, text in texts.items()},
                        "letters.is_letter": {"told": self.values["letter"]},
                        "papers.is_paper": {"told": (self.world, ((0,),), ((0, 5), (1, 6)))},
                        "outcomes.islands": {"rows": untold}, "presses.is_known": {"told": self.values["known"]},
@@ -167,7 +189,7 @@ class TestValues(unittest.TestCase):
 
     def test_truths_are_bools(self):
         for name, function, _, values in self.calls():
-            if ".is_" in name or name in ("boxes.meet", "things.has", "levels.lands", "looks.touches"):
+            if ".is_" in name or name in ("boxes.meet", "things.has", "levels.lands", "looks.touches", "judge.takes"):
                 self.assertIs(type(function(*values)), bool, name)
 
     def test_twice_the_same(self):

@@ -7,6 +7,7 @@ from latepresses.cells import Looks, cells_of, first_world, is_world, kind_of_ce
 from latepresses.floor import lot, meeting, moved_lot, stands_on
 from latepresses.kept import best_plan, best_worst, cost, total
 from latepresses.levels import blocks, is_free, is_game, lands, sign_at
+from latepresses.texts import show_letter, show_rows, show_script
 from latepresses.ticks import run, settled, tick
 
 ROWS = ('........', '..=.....', '....^...', '########')
@@ -51,3 +52,10 @@ class TestExamples(unittest.TestCase):
     def test_kept(self):
         told = [cost((0, 4), 6), total((0, 4), (1,) * 6), best_plan((1,) * 6, 2), best_worst(7, 2)]
         self.assertEqual(told, [2, 7, (0, 3), (3, (0, 3))])
+
+    def test_texts(self):
+        told = show_script((('when', ('held', 1), (('go', ('number', 2), ('dy',)),),
+                             (('own', 0, ('sum', ('own', 0), ('number', -1))),)),)).split('\n')
+        self.assertEqual(told, ['when (held 1)', '  go 2 (dy)', 'else', '  own 0 = (sum (own 0) -1)', 'end'])
+        self.assertEqual([show_rows(((0, 1), (None, 3))), show_letter((0, 4, (1, 0), None, (4, 2)))],
+                         ['0,1 ?,3', '0 4 - 1,0 4,2'])

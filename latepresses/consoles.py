@@ -91,20 +91,16 @@ class Console:
     def _one(self, kind, name):
         """Returns what has a name, which has to be of a kind."""
         self._need_known((name,))
-        self._need_kind(kind, (name,))
-        return self._kept[name][1]
+        kept_kind, thing = self._kept[name]
+        if kept_kind != kind:
+            raise WrongKind(name)
+        return thing
 
     def _need_known(self, names):
         """Raises UnknownName for the first name that nothing has."""
         for name in names:
             if name not in self._kept:
                 raise UnknownName(name)
-
-    def _need_kind(self, kind, names):
-        """Raises WrongKind for the first name of something of another kind."""
-        for name in names:
-            if self._kept[name][0] != kind:
-                raise WrongKind(name)
 
     def house(self, name, h):
         """Returns a twin of a house or watcher of a play."""
@@ -121,7 +117,6 @@ class Console:
     def parted(self, one, other):
         """Returns the first tick at which the worlds of two replays differ, None if there is none."""
         self._need_known((one, other))
-        self._need_kind("replay", (one, other))
         return self._one("replay", one).first_parted(self._one("replay", other))
 
     def judged(self, name, every):

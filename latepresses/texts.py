@@ -35,7 +35,7 @@ def _lines_of_deeds(deeds, ahead):
 def show_deed(deed):
     """Returns the line of a deed, of a "when" just the first one."""
     name = deed[0]
-    parts = [show_expression(part) for part in deed[1:] if isinstance(part, tuple) and name != "when"]
+    parts = [show_expression(part) for part in deed if isinstance(part, tuple) and name != "when"]
     if name == "own" or name == "mark":
         return f"{name} {deed[1]} = {parts[0]}"
     if name == "go":

@@ -332,7 +332,7 @@ class TestOrders(Case):
                              ("bring pp 0", "done"), ("bring pp 0", "done"), ("bring pp 0", "nothing"), ("sure pp", "1"),
                              ("judge pp 1", "yes"), ("replay rr pp", "done"), ("replay ss pp", "done"), ("parted rr ss", "none"),
                              ("press rr 0 0 2", "done"), ("parted rr ss", "1"), ("seek ss 0", show_world(WORLD)),
-                             ("seek ss 1", show_world(run(GAME, WORLD, ((5, 63),))[1])), ("cut ss 1 1", "done"),
+                             ("seek ss 1", show_world(run(GAME, WORLD, ((5, 63),))[1])), ("cut ss 0 0", "done"), ("undo", "done"), ("cut ss 0 1", "done"), ("parted rr ss", "1"), ("cut ss 1 1", "done"),
                              ("seek ss 0", show_world(run(GAME, WORLD, ((5, 63),))[1])), ("undo", "done"), ("seek ss 0", show_world(WORLD)),
                              ("drop ss", "done"), ("names", "gg game\npp play\nrr replay"), ("leave pp 0", "done"), ("leave pp 0", "nothing"),
                              ("leave pp 2", "nothing"), ("fall pp 1", "done"), ("fall pp 7", "nothing"), ("sure pp", "0"), ("drop gg", "done"),

@@ -415,9 +415,30 @@ class TestAgainstSlowHouses(Case):
         row = made[sender][begin:end]
         return (sender, begin, row, 12 if end == 12 and rng.random() < 0.3 else None, heard)
 
+    def test_worlds_behind_each_call(self):
+        rng = random.Random(112)
+        for number in range(8):
+            game = (played_game(1 + number % 4), random_game(rng))[number % 2]
+            many = game[0][2]
+            world = first_world(game, number)
+            told = House(game, world, many, 1, rng.randrange(many), number % 3, 6)
+            made = tuple(zip(*(((0,) * many,) * (number % 3) + random_rows_of_presses(rng, game, 9))))
+            others = [h for h in range(many) if made[h] != made[told.letters()[0][1][0]]]
+            for _ in range(18):
+                if others and rng.random() < 0.4:
+                    sender, begin = rng.choice(others), rng.randrange(8)
+                    told.hear((sender, begin, made[sender][begin:rng.randint(begin, 9)], None, (0,) * many))
+                elif rng.random() < 0.08:
+                    told.fall()
+                else:
+                    told.go(rng.randrange(64))
+                self.assertEqual(told.world, last(game, world, guessed_rows(told.knowns, told.now)))
+                self.assertEqual(told.sure_world, last(game, world, guessed_rows(told.knowns, told.sure)))
+                self.assertEqual(told.worlds()[0], told.sure_world)
+
     def test_houses_by_chance(self):
         rng = random.Random(111)
-        for number in range(40):
+        for number in range(32):
             game = (played_game(rng.randint(1, 4)), random_game(rng), crowded_game(rng))[min(number % 4, 2)]
             many = game[0][2]
             watchers = rng.randrange(3)

@@ -288,7 +288,7 @@ class TestGuarantees(Case):
 
     def test_each_sure_world_is_the_plain_engines(self):
         rng = random.Random(122)
-        for number in range(20):
+        for number in range(14):
             game, world, told, many = drawn_play(rng, number)
             sure = {}
             for _ in range(8):

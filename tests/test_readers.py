@@ -510,7 +510,7 @@ class TestSpoilt(Reading):
 
     def test_worlds_and_papers(self):
         rng = random.Random(139)
-        for number in range(16):
+        for number in range(10):
             game = (random_game, crowded_game)[number % 2](rng)
             paper = random_paper(rng, game)
             self.compare(rng, 12, lambda text: read_world(game, text), lambda text: slow.world(game, text), slow.world_ends,

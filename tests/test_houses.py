@@ -421,9 +421,10 @@ class TestAgainstSlowHouses(Case):
             game = (played_game(1 + number % 4), random_game(rng))[number % 2]
             many = game[0][2]
             world = first_world(game, number)
-            told = House(game, world, many, 1, rng.randrange(many), number % 3, 6)
+            who = rng.randrange(many + 1)
+            told = House(game, world, many, 1, who, number % 3, 6)
             made = tuple(zip(*(((0,) * many,) * (number % 3) + random_rows_of_presses(rng, game, 9))))
-            others = [h for h in range(many) if made[h] != made[told.letters()[0][1][0]]]
+            others = [h for h in range(many) if h != who]
             for _ in range(18):
                 if others and rng.random() < 0.4:
                     sender, begin = rng.choice(others), rng.randrange(8)

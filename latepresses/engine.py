@@ -67,8 +67,8 @@ def worlds_noted(world, ticks):
     worlds = [world]
     cells = list(world)
     for _, notes in ticks:
-        for _, _, wrote in notes:
-            write(cells, wrote)
+        for note in notes:
+            write(cells, note[2])
         worlds.append(tuple(cells))
     return tuple(worlds)
 

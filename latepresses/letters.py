@@ -88,6 +88,6 @@ def _need_place(bag, k):
 def size_in_bits(letter):
     """Returns how many bits a letter has."""
     _need_letter(letter)
-    _, _, row, _, heard = letter
-    told = BITS_OF_HOUSE + BITS_OF_TICK + BITS_OF_LENGTH + BITS_OF_TICK
-    return told + BITS_OF_PRESS * len(row) + BITS_OF_TICK * len(heard)
+    # Two ticks, first and ends, are told of each letter, and one more of each house heard.
+    ticks = 2 + len(letter[4])
+    return BITS_OF_HOUSE + BITS_OF_TICK * ticks + BITS_OF_PRESS * len(letter[2]) + BITS_OF_LENGTH

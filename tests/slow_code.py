@@ -25,7 +25,8 @@ def has_fitting_ways(code):
         ways = {"over": lambda: [1 + rest[0]], "nought": lambda: [1, 1 + rest[0]]}.get(name, lambda: [1])()
         return all(go(place + way, height) for way in ways)
 
-    lengths = all(place + 1 + thing[1] <= len(code) for place, thing in enumerate(code) if thing[0] in ("over", "nought"))
+    lengths = all(place + 1 + thing[1] <= len(code) for place,
+                  thing in enumerate(code) if thing[0] in ("over", "nought"))
     return lengths and go(0, 0)
 
 
@@ -45,7 +46,8 @@ def slow_run_code(code, reads):
         elif name == "read":
             row.append(number_of(rest[0], run))
         elif name == "do":
-            sides = [("number", row.pop())] if rest[0] == "not" else [("number", row.pop()), ("number", row.pop())][::-1]
+            sides = [("number", row.pop())] if rest[0] == "not" else [("number", row.pop()),
+                                                                      ("number", row.pop())][::-1]
             row.append(number_of((rest[0], *sides), run))
         elif name == "own":
             run["own"][rest[0]] = clamp(row.pop(), -999, 999)

@@ -35,7 +35,8 @@ class SlowHouse:
 
     @property
     def sure(self):
-        return min([self.now] + [self.known_to(house) for house in range(self.many) if self.known_to(house) is not None])
+        known = [self.known_to(house) for house in range(self.many)]
+        return min([self.now] + [tick for tick in known if tick is not None])
 
     @property
     def knowns(self):

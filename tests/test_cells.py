@@ -66,8 +66,9 @@ class TestFirstWorld(unittest.TestCase):
 
     def test_rests(self):
         for start, above, rest in (
-                ((0, 0, 0, 32), (0, 0, 0, 24), 0), ((0, 0, 0, 32), (0, 0, 7, 24), 0), ((0, 0, 0, 32), (0, 0, 8, 24), -2),
-                ((0, 0, 0, 32), (0, 0, 0, 23), -2), ((1, 0, 0, 36), (0, 0, 0, 28), -2), ((0, 0, 0, 32), (1, 0, 0, 28), -2),
+                ((0, 0, 0, 32), (0, 0, 0, 24), 0), ((0, 0, 0, 32), (0, 0, 7, 24), 0),
+                ((0, 0, 0, 32), (0, 0, 8, 24), -2), ((0, 0, 0, 32), (0, 0, 0, 23), -2),
+                ((1, 0, 0, 36), (0, 0, 0, 28), -2), ((0, 0, 0, 32), (1, 0, 0, 28), -2),
                 ((2, 0, 40, 0), (0, 0, 40, 8), -2), ((2, 0, 40, 10), (0, 0, 44, 2), 0)):
             self.assertEqual(first_world(game_of(start, above), 0)[1][6], rest, (start, above))
             self.assertEqual(first_world(game_of(above, start), 0)[0][6], 1 if rest == 0 else rest)
@@ -196,10 +197,11 @@ class TestCells(unittest.TestCase):
     def test_bucket_cells(self):
         for told, cells in (
                 ((0, 0, 8, 8), (49,)), ((31, 31, 1, 1), (49,)), ((31, 31, 2, 1), (49, 50)), ((31, 31, 1, 2), (49, 52)),
-                ((31, 31, 2, 2), (49, 50, 52, 53)), ((60, 0, 8, 8), (50, 51)), ((0, 0, 72, 48), (49, 50, 51, 52, 53, 54)),
-                ((71, 47, 9, 9), (54,)), ((72, 0, 4, 4), ()), ((0, 48, 4, 4), ()), ((0, 47, 4, 4), (52,)),
-                ((-4, 0, 4, 4), ()), ((-4, 0, 5, 4), (49,)), ((0, -4, 4, 4), ()), ((28, -3, 8, 4), (49, 50)),
-                ((-9, -9, 500, 500), (49, 50, 51, 52, 53, 54)), ((0, 60, 4, 4), ()), ((80, 20, 16, 16), ())):
+                ((31, 31, 2, 2), (49, 50, 52, 53)), ((60, 0, 8, 8), (50, 51)),
+                ((0, 0, 72, 48), (49, 50, 51, 52, 53, 54)), ((71, 47, 9, 9), (54,)), ((72, 0, 4, 4), ()),
+                ((0, 48, 4, 4), ()), ((0, 47, 4, 4), (52,)), ((-4, 0, 4, 4), ()), ((-4, 0, 5, 4), (49,)),
+                ((0, -4, 4, 4), ()), ((28, -3, 8, 4), (49, 50)), ((-9, -9, 500, 500), (49, 50, 51, 52, 53, 54)),
+                ((0, 60, 4, 4), ()), ((80, 20, 16, 16), ())):
             self.assertEqual(bucket_cells(GAME, told), cells, told)
         self.assertEqual(bucket_cells(game=GAME, box=(0, 0, 1, 1)), (49,))
         with self.assertRaises(InvalidGame):
@@ -272,7 +274,8 @@ class TestLooks(unittest.TestCase):
         world = world_of(box(0, 0))
         looks = Looks(world)
         self.assertEqual(looks.seen(), ())
-        self.assertEqual([looks.at(cell) for cell in (49, 0, 49, 5, 32, 0)], [(0,), box(0, 0), (0,), None, 5, box(0, 0)])
+        self.assertEqual([looks.at(cell) for cell in (49, 0, 49, 5, 32, 0)],
+                         [(0,), box(0, 0), (0,), None, 5, box(0, 0)])
         self.assertEqual(looks.seen(), ((0, box(0, 0)), (5, None), (32, 5), (49, (0,))))
         self.assertEqual(looks.at(cell=54), ())
         self.assertEqual(looks.seen()[-1], (54, ()))

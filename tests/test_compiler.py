@@ -32,7 +32,8 @@ def small_codes(rng, many):
     while many:
         code = tuple(rng.choice((push(0), push(0), push(1), push(-3), ("read", ("own", 0)), ("read", ("drawn", 3)),
                                  ("do", "sum"), ("do", "not"), ("do", "less"), ("own", 0), ("mark", 3), ("gone",),
-                                 ("over", rng.randrange(5)), ("nought", rng.randrange(5)), ("nought", rng.randrange(3))))
+                                 ("over", rng.randrange(5)), ("nought", rng.randrange(5)),
+                                 ("nought", rng.randrange(3))))
                      for _ in range(rng.randint(1, 11)))
         if has_fitting_ways(code):
             many -= 1
@@ -49,7 +50,8 @@ class TestCompiled(Case):
 
     def test_what_is_reckoned(self):
         for name in PAIRS:
-            self.assertEqual(compiled(own_of((name, ("x",), n(3)))), (("read", ("x",)), push(3), ("do", name), ("own", 2)))
+            self.assertEqual(compiled(own_of((name, ("x",), n(3)))),
+                             (("read", ("x",)), push(3), ("do", name), ("own", 2)))
         self.assertEqual(compiled(own_of(("not", ("x",)))), (("read", ("x",)), ("do", "not"), ("own", 2)))
         told = ("less", ("sum", n(1), ("not", n(2))), ("times", n(3), n(4)))
         self.assertEqual(compiled(own_of(told)), (push(1), push(2), ("do", "not"), ("do", "sum"), push(3), push(4),
@@ -60,7 +62,8 @@ class TestCompiled(Case):
         self.assertEqual(compiled((("go", n(1), ("dy",)),)), (push(1), ("read", ("dy",)), ("go",)))
         self.assertEqual(compiled((("born", 7, n(1), n(2), n(3), n(4)),)),
                          (push(1), push(2), push(3), push(4), ("born", 7)))
-        self.assertEqual(compiled((("gone",), ("own", 0, n(1)), ("gone",))), (("gone",), push(1), ("own", 0), ("gone",)))
+        self.assertEqual(compiled((("gone",), ("own", 0, n(1)), ("gone",))),
+                         (("gone",), push(1), ("own", 0), ("gone",)))
 
     def test_pick(self):
         self.assertEqual(compiled(own_of(("pick", ("x",), n(1), n(2)))),
@@ -112,8 +115,9 @@ class TestRun(Case):
             self.assertLessEqual(run_code(code, reads)[1], len(code))
 
     def test_how_many_things_were_done(self):
-        for code, many in (((), 0), ((("gone",),) * 3, 3), ((("over", 0),), 1), ((("over", 2), ("gone",), ("gone",)), 1),
-                           ((push(0), ("nought", 1), ("gone",)), 2), ((push(1), ("nought", 1), ("gone",)), 3)):
+        for code, many in (((), 0), ((("gone",),) * 3, 3), ((("over", 0),), 1),
+                           ((("over", 2), ("gone",), ("gone",)), 1), ((push(0), ("nought", 1), ("gone",)), 2),
+                           ((push(1), ("nought", 1), ("gone",)), 3)):
             self.assertEqual(run_code(code=code, reads=READS)[1], many, code)
         code = compiled((("when", ("held", 0), (("gone",),), (("gone",), ("gone",))),))
         self.assertEqual([run_code(code, READS[:1] + (press,) + READS[2:])[1] for press in (1, 0)], [4, 4])
@@ -123,7 +127,8 @@ class TestRun(Case):
             return run_code(code, READS)[0]
         self.assertEqual(told(), (3, -4, (10, 20, 30, 40), (), None, (), False))
         self.assertEqual(told(push(-999999), ("own", 3))[2], (10, 20, 30, -999))
-        self.assertEqual(told(push(999999), ("mark", 15), ("read", ("mark", 15)), ("mark", 2))[3], ((2, 999), (15, 999)))
+        self.assertEqual(told(push(999999), ("mark", 15), ("read", ("mark", 15)), ("mark", 2))[3],
+                         ((2, 999), (15, 999)))
         self.assertEqual(told(push(5), push(-6), ("go",))[:2], (5, -6))
         self.assertEqual(told(push(1), push(2), push(3), push(4), ("born", 6))[5], ((6, 1, 2, 3, 4),))
         self.assertEqual(told(*(push(1),) * 12, *(("born", 6),) * 3)[5], ((6, 1, 1, 1, 1),) * 2)
@@ -154,8 +159,8 @@ class TestShorter(Case):
             self.check(code, code)
 
     def test_a_do_behind_pushes(self):
-        for name, number in (("sum", 5), ("less", 9), ("times", -14), ("part", -4), ("rest", -1), ("least", -2), ("most", 7),
-                             ("same", 0), ("below", 0), ("both", 1), ("either", 1)):
+        for name, number in (("sum", 5), ("less", 9), ("times", -14), ("part", -4), ("rest", -1), ("least", -2),
+                             ("most", 7), ("same", 0), ("below", 0), ("both", 1), ("either", 1)):
             self.check((push(7), push(-2), ("do", name), ("own", 0)), (push(number), ("own", 0)))
         self.check((push(5), push(0), ("do", "part")), (push(0),))
         self.check((push(999999), push(999999), ("do", "times")), (push(999999),))
@@ -290,8 +295,8 @@ class TestScriptOf(Case):
         for code in ((push(1),), (push(10000), ("own", 0)), (push(-10000), ("own", 0)), (("over", 0),),
                      (("gone",), ("over", 1), ("gone",)), (push(1), push(2), ("own", 0), ("own", 1)),
                      (push(1), push(2), ("own", 0)), (push(1), ("gone",), ("own", 0)),
-                     (x, ("nought", 0), ("gone",)), (x, ("nought", 1), ("gone",)), (x, ("nought", 1), ("gone",), ("gone",)),
-                     (x, ("nought", 2), push(1), ("own", 0), ("gone",)),
+                     (x, ("nought", 0), ("gone",)), (x, ("nought", 1), ("gone",)),
+                     (x, ("nought", 1), ("gone",), ("gone",)), (x, ("nought", 2), push(1), ("own", 0), ("gone",)),
                      (push(1), x, ("nought", 1), ("over", 0), ("own", 0)),
                      (x, ("nought", 2), ("gone",), ("over", 1), ("gone",), push(3)),
                      (x, ("nought", 3), ("gone",), push(1), ("over", 2), ("gone",), push(1), ("own", 0)),
@@ -359,12 +364,13 @@ class TestInvalidCode(Case):
 
     def test_forms(self):
         for thing in ((), ("no",), ("push",), ("push", 1000000), ("push", -1000000), ("push", 1, 2), ("push", "1"),
-                      ("push", None), ("read",), ("read", n(1)), ("read", ("sum", n(1), n(2))), ("read", ("not", ("x",))),
-                      ("read", ("pick", n(1), n(1), n(1))), ("read", ("own", 4)), ("read", ("drawn", 0)), ("read", ("x", 0)),
-                      ("read", ("here", "x")), ("read", ()), ("read", "x"), ("do", "pick"), ("do", "x"), ("do",),
-                      ("do", "sum", 2), ("do", 3), ("own",), ("own", 4), ("own", -1), ("own", 0, 1), ("mark", 16),
-                      ("mark", -1), ("go", 1), ("born", 8), ("born", -1), ("born",), ("gone", 0), ("over", -1), ("over",),
-                      ("over", "0"), ("nought", -1), ("nought",), ("number", 3), ("when", 0), ("pick", 0), (1,), ((),)):
+                      ("push", None), ("read",), ("read", n(1)), ("read", ("sum", n(1), n(2))),
+                      ("read", ("not", ("x",))), ("read", ("pick", n(1), n(1), n(1))), ("read", ("own", 4)),
+                      ("read", ("drawn", 0)), ("read", ("x", 0)), ("read", ("here", "x")), ("read", ()), ("read", "x"),
+                      ("do", "pick"), ("do", "x"), ("do",), ("do", "sum", 2), ("do", 3), ("own",), ("own", 4),
+                      ("own", -1), ("own", 0, 1), ("mark", 16), ("mark", -1), ("go", 1), ("born", 8), ("born", -1),
+                      ("born",), ("gone", 0), ("over", -1), ("over",), ("over", "0"), ("nought", -1), ("nought",),
+                      ("number", 3), ("when", 0), ("pick", 0), (1,), ((),)):
             self.wrong(*[push(0)] * 5, thing)
             # Things to which no way leads are looked at by their forms, too.
             self.wrong(("over", 1), thing)

@@ -10,8 +10,8 @@ from slow_houses import random_choice
 
 from latepresses.cells import first_world
 from latepresses.consoles import Console
-from latepresses.errors import (GameError, InvalidGame, InvalidHouse, InvalidName, InvalidNumber, InvalidPress, InvalidTick,
-                                NothingToUndo, UnknownName, Unorderly, Unreadable, WrongKind)
+from latepresses.errors import (GameError, InvalidGame, InvalidHouse, InvalidName, InvalidNumber, InvalidPress,
+                                InvalidTick, NothingToUndo, UnknownName, Unorderly, Unreadable, WrongKind)
 from latepresses.plays import Play
 from latepresses.presses import guessed_rows
 from latepresses.readers import read_world
@@ -30,8 +30,8 @@ def console():
     told = Console()
     told.keep_game("g", GAME)
     told.keep_play("p", "g", 7, 2, 1, 1, 5)
-    for choice in (("go", 0, 5), ("go", 1, 33), ("go", 0, 6), ("go", 1, 2), ("go", 2, 0), ("go", 2, 0), ("send", 0), ("send", 1),
-                   ("bring", 0), ("bring", 0), ("bring", 0), ("bring", 0)):
+    for choice in (("go", 0, 5), ("go", 1, 33), ("go", 0, 6), ("go", 1, 2), ("go", 2, 0), ("go", 2, 0), ("send", 0),
+                   ("send", 1), ("bring", 0), ("bring", 0), ("bring", 0), ("bring", 0)):
         told.choose("p", choice)
     told.keep_replay("r", "p")
     return told
@@ -40,8 +40,8 @@ def console():
 def play():
     """The play p."""
     told = Play(GAME, WORLD, 2, 1, 1, 5)
-    told.choose_all((("go", 0, 5), ("go", 1, 33), ("go", 0, 6), ("go", 1, 2), ("go", 2, 0), ("go", 2, 0), ("send", 0), ("send", 1),
-                     ("bring", 0), ("bring", 0), ("bring", 0), ("bring", 0)))
+    told.choose_all((("go", 0, 5), ("go", 1, 33), ("go", 0, 6), ("go", 1, 2), ("go", 2, 0), ("go", 2, 0), ("send", 0),
+                     ("send", 1), ("bring", 0), ("bring", 0), ("bring", 0), ("bring", 0)))
     return told
 
 
@@ -79,8 +79,8 @@ class TestKept(Case):
         self.assertEqual(told.names(), [("g", "game"), ("p", "play"), ("r", "replay")])
         for name in ("zz", "abcdefgh", "h"):
             self.assertIsNone(told.keep_game(name, GAME))
-        self.assertEqual(told.names(), [("abcdefgh", "game"), ("g", "game"), ("h", "game"), ("p", "play"), ("r", "replay"),
-                                        ("zz", "game")])
+        self.assertEqual(told.names(), [("abcdefgh", "game"), ("g", "game"), ("h", "game"), ("p", "play"),
+                                        ("r", "replay"), ("zz", "game")])
         told.names().clear()
         self.assertEqual(len(told.names()), 6)
 
@@ -148,7 +148,8 @@ class TestKept(Case):
             self.assertEqual(len(told), number + 3)
         for h in range(3):
             one, other = told.house("p", h), same.house(h)
-            self.assertEqual((one.now, one.knowns, one.lags, one.worlds()), (other.now, other.knowns, other.lags, other.worlds()))
+            self.assertEqual((one.now, one.knowns, one.lags, one.worlds()),
+                             (other.now, other.knowns, other.lags, other.worlds()))
         self.assertEqual(told.sure_of("p"), same.sure_all())
 
     def test_replays(self):
@@ -208,14 +209,16 @@ class TestErrors(Case):
         for name in ("x", "", "Not a name", "gg"):
             self.raises(UnknownName, name, told.keep_play, "x", name, -1, 0, 9, 9, 0)
             self.raises(UnknownName, name, told.keep_replay, "x", name)
-            for call, more in ((told.choose, (("go", 0, 64),)), (told.other_press, (-1, -1, -1)), (told.cut_to, (-1, -1)), (told.drop, ()),
-                               (told.house, (-1,)), (told.sure_of, ()), (told.sought, (-1,)), (told.judged, (0,))):
+            for call, more in ((told.choose, (("go", 0, 64),)), (told.other_press, (-1, -1, -1)),
+                               (told.cut_to, (-1, -1)), (told.drop, ()), (told.house, (-1,)), (told.sure_of, ()),
+                               (told.sought, (-1,)), (told.judged, (0,))):
                 self.raises(UnknownName, name, call, name, *more)
         for name in ("p", "r"):
             self.raises(WrongKind, name, told.keep_play, "x", name, -1, 0, 9, 9, 0)
         for name in ("g", "r"):
             self.raises(WrongKind, name, told.keep_replay, "x", name)
-            for call, more in ((told.choose, (("go", 0, 64),)), (told.house, (-1,)), (told.sure_of, ()), (told.judged, (0,))):
+            for call, more in ((told.choose, (("go", 0, 64),)), (told.house, (-1,)), (told.sure_of, ()),
+                               (told.judged, (0,))):
                 self.raises(WrongKind, name, call, name, *more)
         for name in ("g", "p"):
             for call, more in ((told.other_press, (-1, -1, -1)), (told.cut_to, (-1, -1)), (told.sought, (-1,))):
@@ -241,7 +244,8 @@ class TestErrors(Case):
                 (told.keep_play, InvalidNumber, 9, ("x", "g", 7, 2, 2, 9, 0)),
                 (told.keep_play, InvalidNumber, 0, ("x", "g", 7, 2, 2, 8, 0)),
                 (told.choose, InvalidPress, 64, ("p", ("go", 0, 64))), (told.house, InvalidHouse, 3, ("p", 3)),
-                (told.other_press, InvalidTick, 2, ("r", 2, 2, 64)), (told.other_press, InvalidHouse, 2, ("r", 1, 2, 64)),
+                (told.other_press, InvalidTick, 2, ("r", 2, 2, 64)),
+                (told.other_press, InvalidHouse, 2, ("r", 1, 2, 64)),
                 (told.other_press, InvalidPress, 64, ("r", 1, 1, 64)), (told.cut_to, InvalidTick, 3, ("r", 3, 9)),
                 (told.cut_to, InvalidTick, 0, ("r", 1, 0)), (told.sought, InvalidTick, -1, ("r", -1))):
             self.raises(error, value, call, *more)
@@ -252,12 +256,14 @@ class TestUndo(Case):
     def test_back_to_the_beginning_behind_each_kind_of_call(self):
         told = Console()
         states = [state(told)]
-        calls = [(told.keep_game, ("g", GAME)), (told.keep_play, ("p", "g", 7, 2, 1, 0, 5)), (told.keep_game, ("g", played_game(1))),
-                 (told.keep_game, ("h", GAME))]
+        calls = [(told.keep_game, ("g", GAME)), (told.keep_play, ("p", "g", 7, 2, 1, 0, 5)),
+                 (told.keep_game, ("g", played_game(1))), (told.keep_game, ("h", GAME))]
         calls += [(told.choose, ("p", choice)) for choice in (
-            ("go", 0, 5), ("go", 1, 5), ("go", 2, 5), ("send", 0), ("send", 1), ("double", 0), ("bring", 0), ("bring", 2), ("lose", 0),
-            ("lose", 90), ("bring", 0), ("bring", 0), ("fall", 2), ("go", 2, 5), ("leave", 0), ("leave", 0), ("send", 0), ("bring", 1))]
-        calls += [(told.keep_replay, ("r", "p")), (told.keep_play, ("p", "h", 9, 2, 0, 0, 5)), (told.drop, ("g",)), (told.drop, ("r",))]
+            ("go", 0, 5), ("go", 1, 5), ("go", 2, 5), ("send", 0), ("send", 1), ("double", 0), ("bring", 0),
+            ("bring", 2), ("lose", 0), ("lose", 90), ("bring", 0), ("bring", 0), ("fall", 2), ("go", 2, 5),
+            ("leave", 0), ("leave", 0), ("send", 0), ("bring", 1))]
+        calls += [(told.keep_replay, ("r", "p")), (told.keep_play, ("p", "h", 9, 2, 0, 0, 5)), (told.drop, ("g",)),
+                  (told.drop, ("r",))]
         for call, more in calls:
             call(*more)
             states.append(state(told))
@@ -286,10 +292,11 @@ class TestUndo(Case):
         told = console()
         told.keep_game("h", GAME)
         kept = state(told)
-        for call, more in ((told.keep_game, ("1", GAME)), (told.keep_game, ("x", ())), (told.choose, ("g", ("send", 0))),
-                           (told.choose, ("p", ("go", 0, 64))), (told.drop, ("x",)), (told.cut_to, ("r", 5, 5)),
-                           (told.other_press, ("r", 0, 0, 64)), (told.order, ("x",)), (told.order, ("game x\n",)),
-                           (told.keep_play, ("x", "g", 7, 2, 2, 8, 0)), (told.keep_replay, ("x", "g"))):
+        for call, more in ((told.keep_game, ("1", GAME)), (told.keep_game, ("x", ())),
+                           (told.choose, ("g", ("send", 0))), (told.choose, ("p", ("go", 0, 64))), (told.drop, ("x",)),
+                           (told.cut_to, ("r", 5, 5)), (told.other_press, ("r", 0, 0, 64)), (told.order, ("x",)),
+                           (told.order, ("game x\n",)), (told.keep_play, ("x", "g", 7, 2, 2, 8, 0)),
+                           (told.keep_replay, ("x", "g"))):
             with self.assertRaises(GameError):
                 call(*more)
             self.assertEqual(state(told), kept)
@@ -324,19 +331,24 @@ class TestOrders(Case):
     def test_each_with_its_answer(self):
         told = Console()
         same = Play(GAME, WORLD, 2, 1, 0, 5)
-        for text, answer in (("names", "none"), ("game gg\n" + TEXT, "done"), ("play pp gg 7 2 1 0 5", "done"), ("names", "gg game\npp play"),
-                             ("sure pp", "0"), ("house pp 2", show_world(WORLD)), ("go pp 0 5", "done"), ("go pp 3 5", "nothing"),
-                             ("go pp -1 5", "nothing"), ("go pp 1 63", "done"), ("go pp 2 0", "done"), ("send pp 0", "done"),
-                             ("send pp 3", "nothing"), ("send pp 1", "done"), ("double pp 0", "done"), ("double pp 5", "nothing"),
-                             ("bring pp 4", "done"), ("lose pp 9", "nothing"), ("lose pp 0", "done"), ("bring pp 0", "done"),
-                             ("bring pp 0", "done"), ("bring pp 0", "done"), ("bring pp 0", "nothing"), ("sure pp", "1"),
-                             ("judge pp 1", "yes"), ("replay rr pp", "done"), ("replay ss pp", "done"), ("parted rr ss", "none"),
+        for text, answer in (("names", "none"), ("game gg\n" + TEXT, "done"), ("play pp gg 7 2 1 0 5", "done"),
+                             ("names", "gg game\npp play"), ("sure pp", "0"), ("house pp 2", show_world(WORLD)),
+                             ("go pp 0 5", "done"), ("go pp 3 5", "nothing"), ("go pp -1 5", "nothing"),
+                             ("go pp 1 63", "done"), ("go pp 2 0", "done"), ("send pp 0", "done"),
+                             ("send pp 3", "nothing"), ("send pp 1", "done"), ("double pp 0", "done"),
+                             ("double pp 5", "nothing"), ("bring pp 4", "done"), ("lose pp 9", "nothing"),
+                             ("lose pp 0", "done"), ("bring pp 0", "done"), ("bring pp 0", "done"),
+                             ("bring pp 0", "done"), ("bring pp 0", "nothing"), ("sure pp", "1"), ("judge pp 1", "yes"),
+                             ("replay rr pp", "done"), ("replay ss pp", "done"), ("parted rr ss", "none"),
                              ("press rr 0 0 2", "done"), ("parted rr ss", "1"), ("seek ss 0", show_world(WORLD)),
-                             ("seek ss 1", show_world(run(GAME, WORLD, ((5, 63),))[1])), ("cut ss 0 0", "done"), ("undo", "done"), ("cut ss 0 1", "done"), ("parted rr ss", "1"), ("cut ss 1 1", "done"),
-                             ("seek ss 0", show_world(run(GAME, WORLD, ((5, 63),))[1])), ("undo", "done"), ("seek ss 0", show_world(WORLD)),
-                             ("drop ss", "done"), ("names", "gg game\npp play\nrr replay"), ("leave pp 0", "done"), ("leave pp 0", "nothing"),
-                             ("leave pp 2", "nothing"), ("fall pp 1", "done"), ("fall pp 7", "nothing"), ("sure pp", "0"), ("drop gg", "done"),
-                             ("drop pp", "done"), ("drop rr", "done"), ("names", "none"), ("undo", "done"), ("names", "rr replay")):
+                             ("seek ss 1", show_world(run(GAME, WORLD, ((5, 63),))[1])), ("cut ss 0 0", "done"),
+                             ("undo", "done"), ("cut ss 0 1", "done"), ("parted rr ss", "1"), ("cut ss 1 1", "done"),
+                             ("seek ss 0", show_world(run(GAME, WORLD, ((5, 63),))[1])), ("undo", "done"),
+                             ("seek ss 0", show_world(WORLD)), ("drop ss", "done"),
+                             ("names", "gg game\npp play\nrr replay"), ("leave pp 0", "done"),
+                             ("leave pp 0", "nothing"), ("leave pp 2", "nothing"), ("fall pp 1", "done"),
+                             ("fall pp 7", "nothing"), ("sure pp", "0"), ("drop gg", "done"), ("drop pp", "done"),
+                             ("drop rr", "done"), ("names", "none"), ("undo", "done"), ("names", "rr replay")):
             self.assertEqual(told.order(text), answer, text)
         same.choose_all((("go", 0, 5), ("go", 1, 63)))
         told.order("undo")
@@ -345,7 +357,8 @@ class TestOrders(Case):
 
     def test_orders_count_as_their_calls(self):
         told = Console()
-        for number, text in enumerate(("game gg\n" + TEXT, "play pp gg 7 2 1 0 5", "go pp 0 5", "go pp 9 5", "replay rr pp", "drop rr"),
+        for number, text in enumerate(("game gg\n" + TEXT, "play pp gg 7 2 1 0 5", "go pp 0 5", "go pp 9 5",
+                                       "replay rr pp", "drop rr"),
                                       start=1):
             told.order(text)
             self.assertEqual(len(told), number)
@@ -369,15 +382,17 @@ class TestOrders(Case):
     def test_what_is_none(self):
         told = console()
         kept = state(told)
-        orders = ("play x g 7 2 1 0 5", "go p 0 5", "send p 0", "bring p 0", "lose p 0", "double p 0", "fall p 0", "leave p 0", "replay x p",
-                  "press r 0 0 5", "cut r 0 1", "drop r", "undo", "sure p", "house p 0", "seek r 0", "parted r r", "judge p 1", "names")
-        wrong = ["", " ", "\n", "x", "game", "game x", "game ", "game  x\n" + TEXT, "game x y\n" + TEXT, "game x \n" + TEXT, "game 1\n" + TEXT,
-                 "game abcdefghi\n" + TEXT, "game \n" + TEXT, "game\n" + TEXT, "Game x\n" + TEXT, " game x\n" + TEXT, "games x\n" + TEXT,
-                 "game X\n" + TEXT, "names\n", "names\nnames", "undo\nundo", "go p 0 64", "go p 0 -1", "go p 0 999", "go p 2 64", "keep x"]
+        orders = ("play x g 7 2 1 0 5", "go p 0 5", "send p 0", "bring p 0", "lose p 0", "double p 0", "fall p 0",
+                  "leave p 0", "replay x p", "press r 0 0 5", "cut r 0 1", "drop r", "undo", "sure p", "house p 0",
+                  "seek r 0", "parted r r", "judge p 1", "names")
+        wrong = ["", " ", "\n", "x", "game", "game x", "game ", "game  x\n" + TEXT, "game x y\n" + TEXT,
+                 "game x \n" + TEXT, "game 1\n" + TEXT, "game abcdefghi\n" + TEXT, "game \n" + TEXT, "game\n" + TEXT,
+                 "Game x\n" + TEXT, " game x\n" + TEXT, "games x\n" + TEXT, "game X\n" + TEXT, "names\n",
+                 "names\nnames", "undo\nundo", "go p 0 64", "go p 0 -1", "go p 0 999", "go p 2 64", "keep x"]
         for text in orders:
             words = text.split(" ")
-            wrong += [text + " ", " " + text, text + " 0", text + " x", text + "\n", text + "\n" + TEXT, text.upper(), "\t" + text,
-                      text + "\r", text.capitalize()]
+            wrong += [text + " ", " " + text, text + " 0", text + " x", text + "\n", text + "\n" + TEXT, text.upper(),
+                      "\t" + text, text + "\r", text.capitalize()]
             if len(words) > 1:
                 wrong += [" ".join(words[:-1]), text.replace(" ", "\t", 1), text.replace(" ", "_", 1)]
             for at in range(1, len(words)):
@@ -400,17 +415,22 @@ class TestOrders(Case):
         told = console()
         kept = state(told)
         for text, error, value in (("play x y 7 2 1 0 5", UnknownName, "y"), ("play x p 7 2 1 0 5", WrongKind, "p"),
-                                   ("play x g 65537 2 1 0 5", InvalidNumber, 65537), ("play x g 7 1 1 0 5", InvalidNumber, 1),
-                                   ("play x g 7 2 3 0 5", InvalidNumber, 3), ("play x g 7 2 1 9 5", InvalidNumber, 9),
-                                   ("play x g 7 2 1 0 21", InvalidNumber, 21), ("go x 0 5", UnknownName, "x"), ("go r 0 5", WrongKind, "r"),
-                                   ("send g 0", WrongKind, "g"), ("bring x 0", UnknownName, "x"), ("lose r 0", WrongKind, "r"),
-                                   ("double g 0", WrongKind, "g"), ("fall x 0", UnknownName, "x"), ("leave r 0", WrongKind, "r"),
-                                   ("replay x y", UnknownName, "y"), ("replay x g", WrongKind, "g"), ("press p 0 0 5", WrongKind, "p"),
-                                   ("press r 2 0 5", InvalidTick, 2), ("press r 0 2 5", InvalidHouse, 2), ("press r 0 0 64", InvalidPress, 64),
-                                   ("cut x 0 0", UnknownName, "x"), ("cut r 0 3", InvalidTick, 3), ("drop x", UnknownName, "x"),
-                                   ("sure r", WrongKind, "r"), ("house p 3", InvalidHouse, 3), ("seek p 0", WrongKind, "p"),
-                                   ("seek r 3", InvalidTick, 3), ("parted x y", UnknownName, "x"), ("parted g r", WrongKind, "g"),
-                                   ("judge p 0", InvalidNumber, 0), ("judge g 1", WrongKind, "g")):
+                                   ("play x g 65537 2 1 0 5", InvalidNumber, 65537),
+                                   ("play x g 7 1 1 0 5", InvalidNumber, 1), ("play x g 7 2 3 0 5", InvalidNumber, 3),
+                                   ("play x g 7 2 1 9 5", InvalidNumber, 9), ("play x g 7 2 1 0 21", InvalidNumber, 21),
+                                   ("go x 0 5", UnknownName, "x"), ("go r 0 5", WrongKind, "r"),
+                                   ("send g 0", WrongKind, "g"), ("bring x 0", UnknownName, "x"),
+                                   ("lose r 0", WrongKind, "r"), ("double g 0", WrongKind, "g"),
+                                   ("fall x 0", UnknownName, "x"), ("leave r 0", WrongKind, "r"),
+                                   ("replay x y", UnknownName, "y"), ("replay x g", WrongKind, "g"),
+                                   ("press p 0 0 5", WrongKind, "p"), ("press r 2 0 5", InvalidTick, 2),
+                                   ("press r 0 2 5", InvalidHouse, 2), ("press r 0 0 64", InvalidPress, 64),
+                                   ("cut x 0 0", UnknownName, "x"), ("cut r 0 3", InvalidTick, 3),
+                                   ("drop x", UnknownName, "x"), ("sure r", WrongKind, "r"),
+                                   ("house p 3", InvalidHouse, 3), ("seek p 0", WrongKind, "p"),
+                                   ("seek r 3", InvalidTick, 3), ("parted x y", UnknownName, "x"),
+                                   ("parted g r", WrongKind, "g"), ("judge p 0", InvalidNumber, 0),
+                                   ("judge g 1", WrongKind, "g")):
             self.raises(error, value, told.order, text)
         self.assertEqual(state(told), kept)
 

@@ -194,7 +194,8 @@ class TestScripts(DeedCase):
     def test_no_birth_where_no_slot_is_free(self):
         others = [thing(MIST, 60, 0)] * 15
         for kind in (CRATE, MIST):
-            self.assertEqual(self.run_rules((("born", kind, n(10), n(0), n(0), n(0)),), *others), ((), tuple(range(16))))
+            self.assertEqual(self.run_rules((("born", kind, n(10), n(0), n(0), n(0)),), *others),
+                             ((), tuple(range(16))))
         writes, cells = self.run_rules((("born", MIST, n(-10), n(0), n(0), n(0)),) * 2, *others[:14])
         self.assertEqual(writes, ((15, thing(MIST, 10, 16, house=1)), (49, (0, 15))))
         self.assertEqual(cells, (*range(16), 49))
@@ -299,9 +300,10 @@ class TestAcross(DeedCase):
         for kind in (CRATE, MIST):
             for x, y, dx, rest, behind in (
                     (0, 16, 0, -1, (1, 0)), (3, 16, 0, -1, (4, 0)), (4, 16, 0, -1, (4, 0)), (12, 16, 0, -1, (11, 0)),
-                    (11, 16, 0, -1, (11, 0)), (16, 16, 0, -1, (15, 0)), (20, 16, 0, -1, (20, 0)), (0, 16, 7, -1, (8, 7)),
-                    (12, 16, -7, -1, (4, -7)), (0, 16, -1, -1, (0, -1)), (0, 16, -2, -1, (0, 0)), (0, 16, 3, -1, (4, 3)),
-                    (12, 16, 1, -1, (12, 1)), (0, 16, 0, -2, (0, 0)), (0, 16, 0, 5, (0, 0)), (0, 8, 0, -1, (0, 0))):
+                    (11, 16, 0, -1, (11, 0)), (16, 16, 0, -1, (15, 0)), (20, 16, 0, -1, (20, 0)),
+                    (0, 16, 7, -1, (8, 7)), (12, 16, -7, -1, (4, -7)), (0, 16, -1, -1, (0, -1)),
+                    (0, 16, -2, -1, (0, 0)), (0, 16, 3, -1, (4, 3)), (12, 16, 1, -1, (12, 1)), (0, 16, 0, -2, (0, 0)),
+                    (0, 16, 0, 5, (0, 0)), (0, 8, 0, -1, (0, 0))):
                 game = game_of(rows=rows)
                 world = world_of(game, thing(kind, x, y, dx, 0, rest))
                 writes, _ = self.deed(game, world, (1, 0))
@@ -437,8 +439,9 @@ class TestDown(DeedCase):
 
     def test_water(self):
         rows = (".........", "..ww.....") + (".........",) * 4
-        for x, y, dx, dy, way in ((16, 4, 7, 7, (2, 2)), (12, 4, -7, -7, (-2, -2)), (16, 4, 2, 1, (2, 2)), (11, 4, 7, 6, (7, 7)),
-                                  (16, 3, -7, 5, (-7, 6)), (16, 11, 3, 1, (2, 2)), (16, 12, 3, 1, (3, 2)), (16, 4, 0, 0, (0, 1))):
+        for x, y, dx, dy, way in ((16, 4, 7, 7, (2, 2)), (12, 4, -7, -7, (-2, -2)), (16, 4, 2, 1, (2, 2)),
+                                  (11, 4, 7, 6, (7, 7)), (16, 3, -7, 5, (-7, 6)), (16, 11, 3, 1, (2, 2)),
+                                  (16, 12, 3, 1, (3, 2)), (16, 4, 0, 0, (0, 1))):
             told = self.behind(thing(CRATE, x, y, dx, dy), rows=rows)
             self.assertEqual((told[4:6], told[3]), (way, y + way[1]), (x, y, dx, dy))
         for kind in (MIST, BIRD):
@@ -456,7 +459,8 @@ class TestDown(DeedCase):
         self.assertEqual(self.down(thing(CRATE, 32, 24, 0, 0, -1), thing(MIST, 40, 0)), ((), (0,)))
         self.assertEqual(self.down(thing(CRATE, 60, 8, 0, 0, 7), thing(MIST, 40, 0)),
                          (((0, thing(CRATE, 60, 8)),), (0, 1, 50, 51)))
-        self.assertEqual(self.down(thing(GHOST, 60, 8, 0, 0, 7), thing(MIST, 40, 0)), (((0, thing(GHOST, 60, 8)),), (0,)))
+        self.assertEqual(self.down(thing(GHOST, 60, 8, 0, 0, 7), thing(MIST, 40, 0)),
+                         (((0, thing(GHOST, 60, 8)),), (0,)))
         self.assertEqual(self.down(thing(BIRD, 60, 8, 0, 0, 7), thing(MIST, 40, 0)), (((0, thing(BIRD, 60, 8)),), (0,)))
 
     def test_at_most_eight_moves(self):

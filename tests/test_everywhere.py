@@ -61,14 +61,14 @@ CLASSES = {
                    {"house": "h", "choose": "choice", "choose_all": "choices", "plain_world": "tick", "sure_all": "",
                     "going_on": "", "twin": "", "bound": ""}, "bag made"),
     "replays.Replay": ("game world rows",
-                       {"__len__": "", "sought": "tick", "cut": "begin end", "joined": "other", "pressed": "tick house press",
-                        "first_parted": "other"}, "game world rows"),
+                       {"__len__": "", "sought": "tick", "cut": "begin end", "joined": "other",
+                        "pressed": "tick house press", "first_parted": "other"}, "game world rows"),
     "consoles.Console": ("", {
         "__len__": "", "names": "", "keep_game": "name game",
         "keep_play": "name game_name seed many watchers delay lead", "choose": "name choice",
-        "keep_replay": "name play_name", "other_press": "name tick house press", "cut_to": "name begin end", "drop": "name",
-        "undo": "", "house": "name h", "sure_of": "name", "sought": "name tick", "parted": "one other", "judged": "name every",
-        "order": "text"}, ""),
+        "keep_replay": "name play_name", "other_press": "name tick house press", "cut_to": "name begin end",
+        "drop": "name", "undo": "", "house": "name h", "sure_of": "name", "sought": "name tick", "parted": "one other",
+        "judged": "name every", "order": "text"}, ""),
 }
 
 # What tells lists.
@@ -145,7 +145,8 @@ class TestValues(unittest.TestCase):
         texts = {"script": show.show_script(self.script), "rows": "1,2 ?,3", "game": show.show_game(self.game),
                  "letter": "0 4 - 1,0 4,2", "world": show.show_world(self.world), "paper": show.show_paper(paper)}
         self.others = {"judge.agrees": {"house": self.values["play"].house(0)},
-                       "replays.unpacked": {"told": ((2, (5,)), (1, (6,)))}, "looks.touches": {"one": notes[0], "other": notes[16]}, "looks.is_trace": {"told": trace},
+                       "replays.unpacked": {"told": ((2, (5,)), (1, (6,)))},
+                       "looks.touches": {"one": notes[0], "other": notes[16]}, "looks.is_trace": {"told": trace},
                        "outcomes.open_places": {"rows": untold}, "outcomes.filled": {"rows": untold, "presses": (1, 2)},
                        "outcomes.outcomes": {"rows": untold}, "outcomes.hangs_on": {"rows": untold},
                        "outcomes.is_sure": {"rows": untold}, "outcomes.parting": {"rows": untold},

@@ -31,7 +31,8 @@ class TestExamples(unittest.TestCase):
 
     def test_cells(self):
         world = first_world(GAME, 7)
-        told = [cells_of(GAME), world[0], world[1], world[32], world[49:], is_world(GAME, world), kind_of_cell(GAME, 49)]
+        told = [cells_of(GAME), world[0], world[1], world[32], world[49:], is_world(GAME, world),
+                kind_of_cell(GAME, 49)]
         self.assertEqual(told, [51, (0, 0, 2, 16, 0, 0, -1, (0, 0, 0, 0)), (1, -1, 10, 16, 0, 0, -1, (0, 0, 0, 0)), 7,
                                 ((0, 1), ()), True, ('bucket', 0)])
 

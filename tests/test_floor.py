@@ -45,9 +45,10 @@ class TestMeeting(unittest.TestCase):
     def test_things_beside_within_and_below_one_another(self):
         world = world_of((CRATE, 0, 0), (MIST, 4, 4), (STONE, 8, 0), None, (GHOST, 8, 8))
         for box, but, slots in (((0, 0, 8, 8), (), (0, 1)), ((0, 0, 8, 8), (0,), (1,)), ((0, 0, 9, 8), (), (0, 1, 2)),
-                                ((0, 0, 9, 9), (), (0, 1, 2, 4)), ((0, 0, 9, 9), (1, 4), (0, 2)), ((16, 0, 4, 4), (), ()),
-                                ((12, 12, 1, 1), (), (4,)), ((0, 0, 4, 4), (), (0,)), ((0, 0, 4, 4), (0,), ()),
-                                ((-3, -3, 4, 4), (), (0,)), ((0, 0, 72, 48), (), (0, 1, 2, 4))):
+                                ((0, 0, 9, 9), (), (0, 1, 2, 4)), ((0, 0, 9, 9), (1, 4), (0, 2)),
+                                ((16, 0, 4, 4), (), ()), ((12, 12, 1, 1), (), (4,)), ((0, 0, 4, 4), (), (0,)),
+                                ((0, 0, 4, 4), (0,), ()), ((-3, -3, 4, 4), (), (0,)),
+                                ((0, 0, 72, 48), (), (0, 1, 2, 4))):
             self.assertEqual(meeting(GAME, Looks(world), box, but), slots, box)
         self.assertEqual(meeting(game=GAME, looks=Looks(world), box=(0, 0, 1, 1), but=()), (0,))
 
@@ -232,7 +233,8 @@ class TestStandsOn(unittest.TestCase):
 
     def test_over_two_blocks(self):
         self.stands(world_of((CRATE, 28, 16), (GHOST, 0, 0), (BIRD, 35, 24), (GHOST, 0, 40)), 0, 2, (0, 1, 2, 49, 50))
-        self.stands(world_of((CRATE, 44, 24), (CRATE, 50, 32), (GHOST, 56, 0), (GHOST, 56, 40)), 0, 1, (0, 1, 2, 3, 50, 53))
+        self.stands(world_of((CRATE, 44, 24), (CRATE, 50, 32), (GHOST, 56, 0), (GHOST, 56, 40)), 0, 1,
+                    (0, 1, 2, 3, 50, 53))
 
     def test_at_and_below_the_lower_rim(self):
         self.stands(world_of((CRATE, 0, 40), (CRATE, 0, 48)), 0, -2, (0, 52))

@@ -62,7 +62,8 @@ class TestFirstWrong(Case):
             self.assertIs(takes(GAME, paper), False)
 
     def test_another_world(self):
-        for cell, value in ((32, 8), (33, 1), (48, -1), (0, changed(WORLD[0], 7, (0, 0, 0, 1))), (2, changed(WORLD[2], 6, 5))):
+        for cell, value in ((32, 8), (33, 1), (48, -1), (0, changed(WORLD[0], 7, (0, 0, 0, 1))),
+                            (2, changed(WORLD[2], 6, 5))):
             paper = (changed(WORLD, cell, value), ROWS, MARKS)
             self.assertEqual(first_wrong(GAME, paper), 0)
         paper = (changed(WORLD, 40, 9), ROWS, MARKS[1:])

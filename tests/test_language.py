@@ -155,7 +155,8 @@ class TestCode(unittest.TestCase):
                 self.assertIsInstance(part, (ast.Assign, ast.Return), node.name)
                 for inner in ast.walk(part):
                     self.assertFalse(isinstance(inner, ast.Call) and isinstance(inner.func, ast.Attribute), node.name)
-                    self.assertFalse(isinstance(inner, ast.Attribute) and not isinstance(inner.ctx, ast.Load), node.name)
+                    self.assertFalse(isinstance(inner, ast.Attribute) and not isinstance(inner.ctx, ast.Load),
+                                     node.name)
 
     def test_methods_and_attributes_have_names_of_their_own(self):
         for name, tree in TREES.items():
@@ -207,7 +208,8 @@ class TestCode(unittest.TestCase):
     def test_what_a_loop_goes_over_is_not_changed_in_it(self):
         for name, tree in TREES.items():
             for loop in [node for node in ast.walk(tree) if isinstance(node, ast.For)]:
-                over = {ast.unparse(node) for node in ast.walk(loop.iter) if isinstance(node, (ast.Name, ast.Attribute))}
+                over = {ast.unparse(node) for node in ast.walk(loop.iter)
+                        if isinstance(node, (ast.Name, ast.Attribute))}
                 for node in ast.walk(loop):
                     if isinstance(node, ast.Call) and isinstance(node.func, ast.Attribute) \
                             and node.func.attr in CHANGING:

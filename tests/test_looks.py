@@ -134,7 +134,8 @@ class TestTraced(Case):
     def test_trace(self):
         self.assertEqual(trace(GAME, WORLD, ()), ())
         worlds = run(GAME, WORLD, ROWS)
-        self.assertEqual(TRACE, tuple((presses, traced(GAME, world, presses)[1]) for presses, world in zip(ROWS, worlds)))
+        self.assertEqual(TRACE, tuple((presses, traced(GAME, world, presses)[1]) for presses,
+                                      world in zip(ROWS, worlds)))
 
     def test_behind(self):
         for (_, notes), world, newer in zip(TRACE, run(GAME, WORLD, ROWS), run(GAME, WORLD, ROWS)[1:]):

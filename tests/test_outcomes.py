@@ -176,8 +176,8 @@ class TestIslands(Case):
 
     def test_by_a_third_that_comes_last(self):
         # Mark 0 hangs on 0 and 2, mark 1 on 1 and 3, mark 2 on 2 and 3.
-        game = still_game((added(0, 0),), (added(1, 0),), (added(0, 0, 2), added(2, 0)), (added(1, 0, 2), added(2, 0, 2)),
-                          houses=4)
+        game = still_game((added(0, 0),), (added(1, 0),), (added(0, 0, 2), added(2, 0)),
+                          (added(1, 0, 2), added(2, 0, 2)), houses=4)
         self.assertEqual(islands(game, first(game), ((None,) * 4,), (0, 1)), [[(0, 0), (0, 1), (0, 2), (0, 3)]])
         self.assertEqual(islands(game, first(game), ((None, None, None, 0),), (0, 1)), [[(0, 0), (0, 2)], [(0, 1)]])
 

@@ -6,8 +6,8 @@ import unittest
 from cases import Case
 
 from latepresses.errors import Clash, InvalidKnown, InvalidPress, InvalidTick
-from latepresses.presses import (first_unlike, guess_at, guessed_rows, guesses, is_known, is_known_at, known_to, learned,
-                                 sure_to)
+from latepresses.presses import (first_unlike, guess_at, guessed_rows, guesses, is_known, is_known_at, known_to,
+                                 learned, sure_to)
 
 NOTHING = ((), None)
 HOLED = (((0, 5), (1, 6), (4, 7)), None)
@@ -40,7 +40,8 @@ def slow_guess(known, tick):
 
 class TestIsKnown(Case):
     def test_right_ones(self):
-        for known in (NOTHING, HOLED, LEFT, WHOLE, GONE, (((0, 0),), 1), (((399, 63),), 400), ((), 7), (((5, 0),), None)):
+        for known in (NOTHING, HOLED, LEFT, WHOLE, GONE, (((0, 0),), 1), (((399, 63),), 400), ((), 7),
+                      (((5, 0),), None)):
             self.assertIs(is_known(known), True, known)
         self.assertIs(is_known(told=NOTHING), True)
 
@@ -61,8 +62,8 @@ class TestIsKnown(Case):
         self.assertIs(is_known(((), -1)), False)
 
     def test_other_forms(self):
-        for wrong in ((), ((),), ((), None, 1), (None, None), ((), ()), (((0,),), None), (((0, 1, 2),), None), ((0,), None),
-                      (((None, 0),), None), (((0, None),), None), (((),), None), *WRONG):
+        for wrong in ((), ((),), ((), None, 1), (None, None), ((), ()), (((0,),), None), (((0, 1, 2),), None),
+                      ((0,), None), (((None, 0),), None), (((0, None),), None), (((),), None), *WRONG):
             self.assertIs(is_known(wrong), False, wrong)
 
 
@@ -83,7 +84,8 @@ class TestAsked(Case):
     def test_guess_at(self):
         for known, row in ((NOTHING, (0,) * 8), (HOLED, (5, 6, 6, 6, 7, 7, 7, 7)), (LEFT, (5, 6, 6, 6, 7, 7, 0, 0)),
                            (WHOLE, (5,) + (0,) * 7), ((((2, 9),), None), (0, 0, 9, 9, 9, 9, 9, 9)),
-                           ((((2, 9),), 4), (0, 0, 9, 9, 0, 0, 0, 0)), ((((2, 9), (4, 0)), None), (0, 0, 9, 9, 0, 0, 0, 0))):
+                           ((((2, 9),), 4), (0, 0, 9, 9, 0, 0, 0, 0)),
+                           ((((2, 9), (4, 0)), None), (0, 0, 9, 9, 0, 0, 0, 0))):
             self.assertEqual(tuple(guess_at(known, tick) for tick in range(8)), row)
         self.assertEqual(guess_at(known=HOLED, tick=400), 7)
 
@@ -215,15 +217,15 @@ class TestSeveral(Case):
         self.assertEqual(guessed_rows(knowns=(HOLED,), end=3), ((5,), (6,), (6,)))
 
     def test_sure_to(self):
-        for knowns, tick in ((self.KNOWNS, 0), ((HOLED, LEFT, WHOLE), 2), ((WHOLE, GONE), None), ((WHOLE,), None), ((), None),
-                             ((WHOLE, (((0, 1), (1, 1), (2, 1)), None), GONE), 3)):
+        for knowns, tick in ((self.KNOWNS, 0), ((HOLED, LEFT, WHOLE), 2), ((WHOLE, GONE), None), ((WHOLE,), None),
+                             ((), None), ((WHOLE, (((0, 1), (1, 1), (2, 1)), None), GONE), 3)):
             self.assertEqual(sure_to(knowns), tick)
         self.assertEqual(sure_to(knowns=(HOLED,)), 2)
 
     def test_first_unlike(self):
         newer = (HOLED, (((0, 5), (1, 6), (2, 6), (3, 2), (4, 7)), 6), NOTHING, WHOLE)
-        for begin, end, tick in ((0, 9, 3), (3, 9, 3), (3, 4, 3), (4, 9, None), (0, 3, None), (3, 3, None), (5, 2, None),
-                                 (0, 0, None), (0, 400, 3)):
+        for begin, end, tick in ((0, 9, 3), (3, 9, 3), (3, 4, 3), (4, 9, None), (0, 3, None), (3, 3, None),
+                                 (5, 2, None), (0, 0, None), (0, 400, 3)):
             self.assertEqual(first_unlike(self.KNOWNS, newer, begin, end), tick)
             self.assertEqual(first_unlike(elder=newer, newer=self.KNOWNS, begin=begin, end=end), tick)
         self.assertIsNone(first_unlike(self.KNOWNS, self.KNOWNS, 0, 50))
@@ -237,7 +239,8 @@ class TestSeveral(Case):
             one, other = [tuple(random_known(rng) for _ in range(3)) for _ in range(2)]
             if rng.random() < 0.6:
                 other = (one[0], one[1], other[2])
-            rows = [tuple(tuple(slow_guess(known, tick) for known in knowns) for tick in range(14)) for knowns in (one, other)]
+            rows = [tuple(tuple(slow_guess(known, tick) for known in knowns) for tick in range(14))
+                    for knowns in (one, other)]
             self.assertEqual(guessed_rows(one, 14), rows[0])
             begin, end = rng.randrange(14), rng.randrange(14)
             unlike = [tick for tick in range(begin, end) if rows[0][tick] != rows[1][tick]]

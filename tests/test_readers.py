@@ -47,8 +47,8 @@ class TestScripts(Reading):
 
     def test_each_expression(self):
         for told, thing in (("5", n(5)), ("-9999", n(-9999)), ("(own 3)", ("own", 3)), ("(mark 15)", ("mark", 15)),
-                            ("(x)", ("x",)), ("(rests)", ("rests",)), ("(held 5)", ("held", 5)), ("(met 7)", ("met", 7)),
-                            ("(met own 7 3)", ("met own", 7, 3)), ("(here #)", ("here", "#")),
+                            ("(x)", ("x",)), ("(rests)", ("rests",)), ("(held 5)", ("held", 5)),
+                            ("(met 7)", ("met", 7)), ("(met own 7 3)", ("met own", 7, 3)), ("(here #)", ("here", "#")),
                             ("(under g)", ("under", "g")), ("(drawn 99)", ("drawn", 99)), ("(not 0)", ("not", n(0))),
                             ("(pick (y) 1 (dx))", ("pick", ("y",), n(1), ("dx",)))):
             self.reads(read_script, "own 0 = " + told, (("own", 0, thing),))
@@ -60,10 +60,11 @@ class TestScripts(Reading):
     def test_wrong_expressions(self):
         for wrong in ("", "(", ")", "()", "(5)", "(number 5)", "x", "(z)", "(own)", "(own 4)", "(own -1)", "(own 0 0)",
                       "(own (x))", "(mark 16)", "(held 6)", "(met 8)", "(met own 1)", "(met own 1 4)", "(met 1 2)",
-                      "(met own)", "(met)", "(here x)", "(here)", "(here (x))", "(here ..)", "(here 5)", "(drawn 0)", "(drawn 100)",
-                      "10000", "-10000", "+1", "-0", "01", "1_0", "1.0", "(sum 1)", "(sum 1 2 3)", "(sum 1 2))", "(x)(y)",
-                      "(when 1)", "(go 1 2)", "(pick 1 2)", "((x))", "(X)", "((x) 1)", "1 2", "\u0663", "\u00b2", "(x\t)",
-                      "999999999", "9999999999", "-", "--1", "(sum (x (y)) 1)", "(met own1 2)", "(metown 1 2)"):
+                      "(met own)", "(met)", "(here x)", "(here)", "(here (x))", "(here ..)", "(here 5)", "(drawn 0)",
+                      "(drawn 100)", "10000", "-10000", "+1", "-0", "01", "1_0", "1.0", "(sum 1)", "(sum 1 2 3)",
+                      "(sum 1 2))", "(x)(y)", "(when 1)", "(go 1 2)", "(pick 1 2)", "((x))", "(X)", "((x) 1)", "1 2",
+                      "\u0663", "\u00b2", "(x\t)", "999999999", "9999999999", "-", "--1", "(sum (x (y)) 1)",
+                      "(met own1 2)", "(metown 1 2)"):
             self.wrong(1, read_script, "own 0 = " + wrong)
             self.wrong(2, read_script, text("gone", "own 0 = " + wrong))
 
@@ -73,8 +74,8 @@ class TestScripts(Reading):
                       "mark -1 = 1", "go 1", "go 1 2 3", "go 1  2", "go (x)(y)", "go 1 by 2", "go = 1 2", "go  1 2",
                       "born 0 at 1 2 by 3", "born 0 at 1 2 3 4", "born 0 1 2 by 3 4", "born 8 at 1 2 by 3 4",
                       "born 0 by 1 2 at 3 4", "born 0 at 1 2 by 3 4 ", "born 0 at 1 by 2 3 4", "born (x) at 1 2 by 3 4",
-                      "when", "when ", "when 1 2", "when 1 then", "when gone", "else", "end", "(gone)", "gone)", "\tgone",
-                      "  gone", "=", "at", "by", "if 1", "when (x", "x"):
+                      "when", "when ", "when 1 2", "when 1 then", "when gone", "else", "end", "(gone)", "gone)",
+                      "\tgone", "  gone", "=", "at", "by", "if 1", "when (x", "x"):
             self.wrong(1, read_script, wrong)
             self.wrong(3, read_script, text("gone", "go 1 2", wrong))
 
@@ -88,12 +89,13 @@ class TestScripts(Reading):
             for many in range(1, len(lines)):
                 if lines[many - 1] != "end":
                     self.wrong(many + 1, read_script, text(*lines[:many]))
-        for number, *lines in ((3, "when 1", "else", "end"), (4, "when 1", "else", "  gone", "else"), (3, "when 1", "end", "end"),
-                               (3, "when 1", "end", "else"), (2, "when 1", "gone", "end"), (2, "when 1", "    gone", "end"),
-                               (2, "when 1", "  end"), (2, "when 1", "  else"), (3, "when 1", "  when 2", "end"),
-                               (3, "when 1", "  when 2", "else"), (3, "when 1", "  when 2", "  gone"), (1, "  gone"),
-                               (2, "when 1", "", "end"), (2, "gone", ""), (4, "when 1", "  gone", "end", ""),
-                               (2, "when 1", " end"), (2, "when 1", "end "), (2, "when 1", "else "), (3, "when 1", "else", "gone"),
+        for number, *lines in ((3, "when 1", "else", "end"), (4, "when 1", "else", "  gone", "else"),
+                               (3, "when 1", "end", "end"), (3, "when 1", "end", "else"), (2, "when 1", "gone", "end"),
+                               (2, "when 1", "    gone", "end"), (2, "when 1", "  end"), (2, "when 1", "  else"),
+                               (3, "when 1", "  when 2", "end"), (3, "when 1", "  when 2", "else"),
+                               (3, "when 1", "  when 2", "  gone"), (1, "  gone"), (2, "when 1", "", "end"),
+                               (2, "gone", ""), (4, "when 1", "  gone", "end", ""), (2, "when 1", " end"),
+                               (2, "when 1", "end "), (2, "when 1", "else "), (3, "when 1", "else", "gone"),
                                (3, "when 1", "else", "else")):
             self.wrong(number, read_script, text(*lines))
 
@@ -145,9 +147,9 @@ class TestRows(Reading):
         self.assertEqual(len(read_rows(" ".join(["7,7"] * 400))), 400)
 
     def test_wrong_ones(self):
-        for wrong in ("", " ", "--", "- ", " -", "- 0", "0 -", "-,-", "64", "-1", "00", "+1", "0,", ",0", "0,,0", "0 ", " 0",
-                      "0  0", "0,1 0", "0 0,1", "0,0,0,0,0", "??", "?0", "0 ?,?", "0, 1", "a", "0;1", "0,0 0,0 0", "-0",
-                      "1.0", "\t0", "0\t0", "63,64", "9999999999", "\u0663", "0,-"):
+        for wrong in ("", " ", "--", "- ", " -", "- 0", "0 -", "-,-", "64", "-1", "00", "+1", "0,", ",0", "0,,0", "0 ",
+                      " 0", "0  0", "0,1 0", "0 0,1", "0,0,0,0,0", "??", "?0", "0 ?,?", "0, 1", "a", "0;1", "0,0 0,0 0",
+                      "-0", "1.0", "\t0", "0\t0", "63,64", "9999999999", "\u0663", "0,-"):
             self.wrong(1, read_rows, wrong)
             self.wrong(1, read_rows, text(wrong, "0"))
         for right in ("-", "0", "?,1 2,3"):
@@ -164,7 +166,8 @@ class TestLetters(Reading):
             self.reads(read_letter, show_letter(letter), letter)
         self.assertEqual(read_letter(text="0 4 - 1,0 4,2"), (0, 4, (1, 0), None, (4, 2)))
         self.reads(read_letter, "0 0 0 - 0", (0, 0, (), 0, (0,)))
-        self.reads(read_letter, "999999999 999999999 999999999 - 999999999", (10 ** 9 - 1, 10 ** 9 - 1, (), 10 ** 9 - 1, (10 ** 9 - 1,)))
+        self.reads(read_letter, "999999999 999999999 999999999 - 999999999",
+                   (10 ** 9 - 1, 10 ** 9 - 1, (), 10 ** 9 - 1, (10 ** 9 - 1,)))
 
     def test_edges(self):
         for row, right in ((",".join(["0"] * 32), True), (",".join(["0"] * 33), False), ("63", True), ("64", False)):
@@ -186,12 +189,13 @@ class TestLetters(Reading):
                 self.wrong(1, read_letter, told)
 
     def test_wrong_ones(self):
-        for wrong in ("", "0", "0 4 - 1,0", "0 4 - 1,0 4,2 0", " 0 4 - 1,0 4,2", "0 4 - 1,0 4,2 ", "0  4 - 1,0 4,2", "-1 4 - - 0",
-                      "0 -1 - - 0", "0 4 -1 - 0", "0 4 - -1 0", "0 4 - - -1", "0 4 - - ", "0 4 - - -", "- 4 - - 0", "0 - - - 0",
-                      "0 4 - 1, 0", "0 4 - ,1 0", "0 4 - 1,,1 0", "0 4 - 1 0,", "00 4 - - 0", "0 04 - - 0", "0 4 05 - 0",
-                      "0 4 - 01 0", "0 4 - - 00", "+0 4 - - 0", "-0 4 - - 0", "0 4 -- - 0", "0 4 - -- 0", "0 4 ? - 0",
-                      "0 4 - ? 0", "1000000000 4 - - 0", "0 1000000000 - - 0", "0 4 1000000000 - 0", "0 4 - - 1000000000",
-                      "0 4 - 1000000000 0", "0 4 - - \u0663", "0 4 None - 0"):
+        for wrong in ("", "0", "0 4 - 1,0", "0 4 - 1,0 4,2 0", " 0 4 - 1,0 4,2", "0 4 - 1,0 4,2 ", "0  4 - 1,0 4,2",
+                      "-1 4 - - 0", "0 -1 - - 0", "0 4 -1 - 0", "0 4 - -1 0", "0 4 - - -1", "0 4 - - ", "0 4 - - -",
+                      "- 4 - - 0", "0 - - - 0", "0 4 - 1, 0", "0 4 - ,1 0", "0 4 - 1,,1 0", "0 4 - 1 0,", "00 4 - - 0",
+                      "0 04 - - 0", "0 4 05 - 0", "0 4 - 01 0", "0 4 - - 00", "+0 4 - - 0", "-0 4 - - 0", "0 4 -- - 0",
+                      "0 4 - -- 0", "0 4 ? - 0", "0 4 - ? 0", "1000000000 4 - - 0", "0 1000000000 - - 0",
+                      "0 4 1000000000 - 0", "0 4 - - 1000000000", "0 4 - 1000000000 0", "0 4 - - \u0663",
+                      "0 4 None - 0"):
             self.wrong(1, read_letter, wrong)
         for more in ("\n", "\n0 4 - - 0", "\n\n"):
             self.wrong(2, read_letter, "0 4 - - 0" + more)
@@ -211,7 +215,8 @@ class TestWorlds(Reading):
 
     def test_each_line_beside_those_ahead(self):
         hero, crate = "0 0 18 0 0 0 -1 0 0 0 0", "1 -1 28 40 0 0 -1 0 0 0 0"
-        right = [f"slot 2: {hero}", f"slot 10: {crate}", "met 2: 0 15", "met 10: 9 11", "seed 65536", "mark 0: -999", "mark 15: 999"]
+        right = [f"slot 2: {hero}", f"slot 10: {crate}", "met 2: 0 15", "met 10: 9 11", "seed 65536", "mark 0: -999",
+                 "mark 15: 999"]
         world = read_world(GAME, text(*right))
         self.assertTrue(is_world(GAME, world))
         self.assertEqual((world[2], world[18], world[32], world[33], world[48]),
@@ -221,9 +226,11 @@ class TestWorlds(Reading):
             self.wrong(many + 1 if many else 1, read_world, GAME, text(*right[:many]))
         self.assertEqual(read_world(GAME, text(*right[:5]))[33:49], (0,) * 16)
         self.assertEqual(read_world(GAME, "seed 0")[:32], (None,) * 16 + ((),) * 16)
-        for at, line in ((0, "slot 16: " + hero), (0, "slot -1: " + hero), (0, "slot 02: " + hero), (0, "slot 2 " + hero), (0, "slot 12 " + hero), (2, "met -1: 0"), (2, "met 12 0"), (5, "mark -1: 1"), (5, "mark 12 1"),
-                         (0, "slot 2:  " + hero), (0, "slot 2: " + hero + " 0"), (0, "slot 2: " + hero[:-2]), (0, "slot 2:"),
-                         (0, "slot 2: " + hero + " "), (0, " slot 2: " + hero), (0, "Slot 2: " + hero), (0, "slot: " + hero),
+        for at, line in ((0, "slot 16: " + hero), (0, "slot -1: " + hero), (0, "slot 02: " + hero),
+                         (0, "slot 2 " + hero), (0, "slot 12 " + hero), (2, "met -1: 0"), (2, "met 12 0"),
+                         (5, "mark -1: 1"), (5, "mark 12 1"), (0, "slot 2:  " + hero), (0, "slot 2: " + hero + " 0"),
+                         (0, "slot 2: " + hero[:-2]), (0, "slot 2:"), (0, "slot 2: " + hero + " "),
+                         (0, " slot 2: " + hero), (0, "Slot 2: " + hero), (0, "slot: " + hero),
                          (0, "slot 2: 5 0 18 0 0 0 -1 0 0 0 0"), (0, "slot 2: 0 2 18 0 0 0 -1 0 0 0 0"),
                          (0, "slot 2: 0 -2 18 0 0 0 -1 0 0 0 0"), (0, "slot 2: 0 0 40 36 0 0 -1 0 0 0 0"),
                          (0, "slot 2: 0 0 -1 0 0 0 -1 0 0 0 0"), (0, "slot 2: 0 0 18 -1 0 0 -1 0 0 0 0"),
@@ -232,20 +239,23 @@ class TestWorlds(Reading):
                          (0, "slot 2: 0 0 18 0 0 0 -1 1000 0 0 0"), (0, "slot 2: 0 0 18 0 0 0 -1 0 0 0 -1000"),
                          (0, "slot 2: 0 0 18 56 0 0 -1 0 0 0 0"), (0, "slot 2: 0 0 1000000000 0 0 0 -1 0 0 0 0"),
                          (1, "slot 2: " + crate), (1, "slot 1: " + crate), (1, "slot 3: 1 -1 23 0 0 0 -1 0 0 0 0"),
-                         (1, "slot 3: 0 1 13 7 0 0 -1 0 0 0 0"), (2, "met 3: 2"), (2, "met 2:"), (2, "met 2: "), (2, "met 2: 2"),
-                         (2, "met 2: 3 2"), (2, "met 2: 3 3"), (2, "met 2: 5 4"), (2, "met 2: 16"), (2, "met 2: -1"), (2, "met 2: 03"),
-                         (3, "met 1: 0"), (3, "met 2: 3"), (3, "slot 11: " + crate), (4, "seed 65537"), (4, "seed -1"),
-                         (4, "seed"), (4, "seed 1 2"), (4, "seed 01"), (4, "seed 0: 1"), (4, "mark 0: 1"), (4, "met 9: 1"),
-                         (5, "seed 1"), (5, "mark 0: 0"), (5, "mark 0: 1000"), (5, "mark 0: -1000"), (5, "mark 16: 1"),
-                         (5, "mark 0 1"), (5, "mark 0: 1 1"), (5, "mark 0:"), (5, "mark 0: -0"), (5, "met 11: 1"), (5, "rows -"),
-                         (5, "slot 12: " + crate), (6, "mark 0: 5"), (6, ""), (7, "mark 15: 5"), (7, ""), (7, "seed 1")):
+                         (1, "slot 3: 0 1 13 7 0 0 -1 0 0 0 0"), (2, "met 3: 2"), (2, "met 2:"), (2, "met 2: "),
+                         (2, "met 2: 2"), (2, "met 2: 3 2"), (2, "met 2: 3 3"), (2, "met 2: 5 4"), (2, "met 2: 16"),
+                         (2, "met 2: -1"), (2, "met 2: 03"), (3, "met 1: 0"), (3, "met 2: 3"), (3, "slot 11: " + crate),
+                         (4, "seed 65537"), (4, "seed -1"), (4, "seed"), (4, "seed 1 2"), (4, "seed 01"),
+                         (4, "seed 0: 1"), (4, "mark 0: 1"), (4, "met 9: 1"), (5, "seed 1"), (5, "mark 0: 0"),
+                         (5, "mark 0: 1000"), (5, "mark 0: -1000"), (5, "mark 16: 1"), (5, "mark 0 1"),
+                         (5, "mark 0: 1 1"), (5, "mark 0:"), (5, "mark 0: -0"), (5, "met 11: 1"), (5, "rows -"),
+                         (5, "slot 12: " + crate), (6, "mark 0: 5"), (6, ""), (7, "mark 15: 5"), (7, ""),
+                         (7, "seed 1")):
             self.wrong(at + 1, read_world, GAME, text(*right[:at], line))
             self.wrong(at + 1, read_world, GAME, text(*right[:at], line, *right[at + 1:]))
 
     def test_things_within_one_another(self):
         # Heroes and crates bar, shots and bubbles do not.
-        for one, other, right in (("0 0 18 0", "1 -1 24 0", True), ("0 0 18 0", "1 -1 23 0", False), ("0 0 18 0", "3 -1 18 0", True),
-                                  ("3 0 18 0", "1 -1 18 0", True), ("4 0 18 0", "4 -1 18 0", True)):
+        for one, other, right in (("0 0 18 0", "1 -1 24 0", True), ("0 0 18 0", "1 -1 23 0", False),
+                                  ("0 0 18 0", "3 -1 18 0", True), ("3 0 18 0", "1 -1 18 0", True),
+                                  ("4 0 18 0", "4 -1 18 0", True)):
             told = text(f"slot 0: {one} 0 0 -2 0 0 0 0", f"slot 1: {other} 0 0 -2 0 0 0 0", "seed 5")
             if right:
                 self.assertTrue(is_world(GAME, read_world(GAME, told)))
@@ -275,8 +285,9 @@ class TestGames(Reading):
                     self.assertEqual(read_game(told)[0][2:], (houses, pull))
                 else:
                     self.wrong(1, read_game, told)
-        for wrong in ("", "houses 1 pull", "houses 1", "houses 1 pull 0 ", "houses 1  pull 0", "houses 01 pull 0", "pull 0 houses 1",
-                      "houses 1 pull 0 0", "|....", "houses + pull 0", "Houses 1 pull 0", "houses 1 push 0", " houses 1 pull 0"):
+        for wrong in ("", "houses 1 pull", "houses 1", "houses 1 pull 0 ", "houses 1  pull 0", "houses 01 pull 0",
+                      "pull 0 houses 1", "houses 1 pull 0 0", "|....", "houses + pull 0", "Houses 1 pull 0",
+                      "houses 1 push 0", " houses 1 pull 0"):
             self.wrong(1, read_game, text(wrong, *ROWS, *KIND))
 
     def test_rows_of_the_floor(self):
@@ -312,9 +323,9 @@ class TestGames(Reading):
             return text("houses 2 pull 0", *ROWS, *["start " + start for start in starts], *KIND)
         for start in ("0 0 0 0", "0 1 24 8", "0 -1 3 5"):
             self.assertEqual(read_game(told(start))[0][1], (tuple(int(word) for word in start.split(" ")),))
-        for start in ("0 2 0 0", "0 -2 0 0", "8 0 0 0", "-1 0 0 0", "0 0 -1 0", "0 0 32 0", "0 0 0 -1", "0 0 0 16", "0 0 5 23",
-                      "0 0 0 24", "0 0 0", "0 0 0 0 0", "00 0 0 0", "0 0 0 x", "0 0  0 0", "0 0 0 0 ", "", "0 0 -0 0",
-                      "0 0 1000000000 0"):
+        for start in ("0 2 0 0", "0 -2 0 0", "8 0 0 0", "-1 0 0 0", "0 0 -1 0", "0 0 32 0", "0 0 0 -1", "0 0 0 16",
+                      "0 0 5 23", "0 0 0 24", "0 0 0", "0 0 0 0 0", "00 0 0 0", "0 0 0 x", "0 0  0 0", "0 0 0 0 ", "",
+                      "0 0 -0 0", "0 0 1000000000 0"):
             self.wrong(5, read_game, told(start))
             self.wrong(6, read_game, told("0 0 0 0", start))
         self.wrong(5, read_game, told("0 0 0 0").replace("start ", "starts "))
@@ -354,12 +365,14 @@ class TestGames(Reading):
             return text("houses 1 pull 0", *ROWS, *[line for kind in kinds for line in ("kind " + kind, "end")])
         for kind in ("a 1 1 - 0 0 0 0", "abcdefgh 16 16 bars,carries,falls,frail,pushed -999 999 0 1"):
             self.assertEqual(len(read_game(told(kind))[1]), 1)
-        for kind in ("a 0 1 - 0 0 0 0", "a 1 0 - 0 0 0 0", "a 17 1 - 0 0 0 0", "a 1 17 - 0 0 0 0", "abcdefghi 1 1 - 0 0 0 0", "A 1 1 - 0 0 0 0",
-                     "a1 1 1 - 0 0 0 0", " 1 1 - 0 0 0 0", "a 1 1 - 0 0 0", "a 1 1 - 0 0 0 0 0", "a 1 1 - 1000 0 0 0",
-                     "a 1 1 - 0 0 0 -1000", "a 1 1  0 0 0 0", "a 1 1 0 0 0 0", "a 1 1 pushed 0 0 0 0", "a 1 1 carries 0 0 0 0",
-                     "a 1 1 falls,bars 0 0 0 0", "a 1 1 bars,bars 0 0 0 0", "a 1 1 bars, 0 0 0 0", "a 1 1 -,bars 0 0 0 0",
-                     "a 1 1 bars;falls 0 0 0 0", "a 1 1 flies 0 0 0 0", "a 1 1 bars falls 0 0 0 0", "a 01 1 - 0 0 0 0", "a 1 1 - 0 0 0 0 ",
-                     "a 1 1 - 00 0 0 0", "a 1 1 - +1 0 0 0", "a x 1 - 0 0 0 0", "", "a", "a 1", "a 1 1", "a 1 1 -"):
+        for kind in ("a 0 1 - 0 0 0 0", "a 1 0 - 0 0 0 0", "a 17 1 - 0 0 0 0", "a 1 17 - 0 0 0 0",
+                     "abcdefghi 1 1 - 0 0 0 0", "A 1 1 - 0 0 0 0", "a1 1 1 - 0 0 0 0", " 1 1 - 0 0 0 0",
+                     "a 1 1 - 0 0 0", "a 1 1 - 0 0 0 0 0", "a 1 1 - 1000 0 0 0", "a 1 1 - 0 0 0 -1000",
+                     "a 1 1  0 0 0 0", "a 1 1 0 0 0 0", "a 1 1 pushed 0 0 0 0", "a 1 1 carries 0 0 0 0",
+                     "a 1 1 falls,bars 0 0 0 0", "a 1 1 bars,bars 0 0 0 0", "a 1 1 bars, 0 0 0 0",
+                     "a 1 1 -,bars 0 0 0 0", "a 1 1 bars;falls 0 0 0 0", "a 1 1 flies 0 0 0 0",
+                     "a 1 1 bars falls 0 0 0 0", "a 01 1 - 0 0 0 0", "a 1 1 - 0 0 0 0 ", "a 1 1 - 00 0 0 0",
+                     "a 1 1 - +1 0 0 0", "a x 1 - 0 0 0 0", "", "a", "a 1", "a 1 1", "a 1 1 -"):
             self.wrong(5, read_game, told(kind))
             self.wrong(7, read_game, told("z 1 1 - 0 0 0 0", kind))
         for word in ("kinds", "Kind", " kind", "start", "a"):
@@ -378,8 +391,8 @@ class TestGames(Reading):
             self.wrong(6 + many, read_game, text(*head, *rules[:many]))
         for many in range(1, 5):
             self.wrong(6 + many, read_game, text(*head, *rules[:many], "end"))
-        for wrong in ("gone", " gone", "   gone", "    gone", "", "  ", "  end", "  else", "kind b 1 1 - 0 0 0 0", "  own 4 = 1", "end ",
-                      "start 0 0 0 0", "|...."):
+        for wrong in ("gone", " gone", "   gone", "    gone", "", "  ", "  end", "  else", "kind b 1 1 - 0 0 0 0",
+                      "  own 4 = 1", "end ", "start 0 0 0 0", "|...."):
             self.wrong(6, read_game, text(*head, wrong, "end"))
         self.wrong(7, read_game, text(*head, "end", "end"))
         self.wrong(7, read_game, text(*head, "end", "  gone"))
@@ -414,12 +427,14 @@ class TestPapers(Reading):
             self.wrong(many + 1, read_paper, GAME, text(*right[:many]))
         for many in (3, 4):
             self.assertEqual(len(read_paper(GAME, text(*right[:many]))[2]), many - 3)
-        for at, line in ((0, "rows -"), (0, "sum 0 5"), (0, ""), (1, "sum 0 5"), (2, "rows"), (2, "rows "), (2, "rows 0,?"), (2, "rows  0"),
-                         (2, "rows 64"), (2, "rows 0 0,0"), (2, "rows 0,0,0,0,0"), (2, "row 0"), (2, "rows -\t"), (2, "mark 2: 5"),
-                         (3, "sum 3 5"), (3, "sum -1 5"), (3, "sum 00 5"), (3, "sum 0 05"), (3, "sum 0 +5"), (3, "sum 0  5"), (3, "sum 0"),
-                         (3, "sum 0 5 5"), (3, "sum 0 10000000000000000000"), (3, "sum 0 -10000000000000000000"), (3, "sum 0 -"),
-                         (3, "mark 5: 5"), (3, "rows -"), (3, ""), (3, "Sum 0 5"), (3, "sum 0 x"), (3, "sum x 0"), (3, "sum 0 -0"),
-                         (4, "sum 0 6"), (4, ""), (5, "sum 2 5"), (5, "sum 3 5"), (5, ""), (4, "sum 1000000000 5")):
+        for at, line in ((0, "rows -"), (0, "sum 0 5"), (0, ""), (1, "sum 0 5"), (2, "rows"), (2, "rows "),
+                         (2, "rows 0,?"), (2, "rows  0"), (2, "rows 64"), (2, "rows 0 0,0"), (2, "rows 0,0,0,0,0"),
+                         (2, "row 0"), (2, "rows -\t"), (2, "mark 2: 5"), (3, "sum 3 5"), (3, "sum -1 5"),
+                         (3, "sum 00 5"), (3, "sum 0 05"), (3, "sum 0 +5"), (3, "sum 0  5"), (3, "sum 0"),
+                         (3, "sum 0 5 5"), (3, "sum 0 10000000000000000000"), (3, "sum 0 -10000000000000000000"),
+                         (3, "sum 0 -"), (3, "mark 5: 5"), (3, "rows -"), (3, ""), (3, "Sum 0 5"), (3, "sum 0 x"),
+                         (3, "sum x 0"), (3, "sum 0 -0"), (4, "sum 0 6"), (4, ""), (5, "sum 2 5"), (5, "sum 3 5"),
+                         (5, ""), (4, "sum 1000000000 5")):
             self.wrong(at + 1, read_paper, GAME, text(*right[:at], line))
             self.wrong(at + 1, read_paper, GAME, text(*right[:at], line, *right[at + 1:]))
 
@@ -450,7 +465,8 @@ def spoilt(rng, told):
         other = rng.randrange(len(lines))
         lines[at], lines[other] = lines[other], lines[at]
     elif draw == 3:
-        lines.insert(rng.randrange(len(lines) + 1), rng.choice(("", "end", "else", "  end", "  gone", "seed 5", "rows -", "|....")))
+        lines.insert(rng.randrange(len(lines) + 1),
+                     rng.choice(("", "end", "else", "  end", "  gone", "seed 5", "rows -", "|....")))
     elif draw == 4:
         lines = lines[:at]
     elif draw == 5:
@@ -460,8 +476,9 @@ def spoilt(rng, told):
     elif draw in (7, 8):
         words = lines[at].split(" ")
         place = rng.randrange(len(words))
-        words[place] = rng.choice(("", "0", "-1", "1", "00", "+" + words[place], "0" + words[place], words[place] + "0", "?", "-", "bars",
-                                   "123456789", "1234567890", "9" * 19, "9" * 20, "(x)", words[-1], "64", "7"))
+        words[place] = rng.choice(("", "0", "-1", "1", "00", "+" + words[place], "0" + words[place], words[place] + "0",
+                                   "?", "-", "bars", "123456789", "1234567890", "9" * 19, "9" * 20, "(x)", words[-1],
+                                   "64", "7"))
         lines[at] = " ".join(words)
     elif draw == 9:
         words = lines[at].split(" ")
@@ -513,10 +530,10 @@ class TestSpoilt(Reading):
         for number in range(10):
             game = (random_game, crowded_game)[number % 2](rng)
             paper = random_paper(rng, game)
-            self.compare(rng, 12, lambda text: read_world(game, text), lambda text: slow.world(game, text), slow.world_ends,
-                         show_world(paper[0]))
-            self.compare(rng, 12, lambda text: read_paper(game, text), lambda text: slow.paper(game, text), slow.paper_ends,
-                         show_paper(paper))
+            self.compare(rng, 12, lambda text: read_world(game, text), lambda text: slow.world(game, text),
+                         slow.world_ends, show_world(paper[0]))
+            self.compare(rng, 12, lambda text: read_paper(game, text), lambda text: slow.paper(game, text),
+                         slow.paper_ends, show_paper(paper))
 
     def test_games(self):
         rng = random.Random(140)

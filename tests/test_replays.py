@@ -6,7 +6,8 @@ import unittest
 from cases import Case, changed
 from samples import first, played_game, random_rows_of_presses
 
-from latepresses.errors import InvalidGame, InvalidHouse, InvalidNumber, InvalidPair, InvalidPress, InvalidTick, InvalidWorld
+from latepresses.errors import (InvalidGame, InvalidHouse, InvalidNumber, InvalidPair, InvalidPress, InvalidTick,
+                                InvalidWorld)
 from latepresses.replays import Replay, packed, unpacked
 from latepresses.ticks import last, run
 

@@ -148,7 +148,8 @@ class TestScripts(unittest.TestCase):
 
     def test_wants(self):
         self.assertEqual(wants(()), ((), False, False))
-        self.assertEqual(wants((("go", ("mark", 7), ("mark", 2)), ("mark", 11, ("mark", 2)))), ((2, 7, 11), False, False))
+        self.assertEqual(wants((("go", ("mark", 7), ("mark", 2)), ("mark", 11, ("mark", 2)))),
+                         ((2, 7, 11), False, False))
         self.assertEqual(wants((("own", 0, ("drawn", 9)),)), ((), True, False))
         self.assertEqual(wants((("own", 0, ("met", 0)),)), ((), False, True))
         self.assertEqual(wants((("own", 0, ("met own", 0, 1)),)), ((), False, True))

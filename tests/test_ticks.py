@@ -171,7 +171,8 @@ class TestErrors(Case):
 
     def test_then_a_wrong_world_with_its_cell(self):
         for call, told in ((tick, (64, 0)), (run, ((64, 0),)), (last, ((64, 0),)), (settled, -1)):
-            for cell, value in ((0, (9, 0, 0, 0, 0, 0, 0, (0,) * 4)), (15, 3), (16, (0,)), (32, -1), (48, 1000), (49, (5,))):
+            for cell, value in ((0, (9, 0, 0, 0, 0, 0, 0, (0,) * 4)), (15, 3), (16, (0,)), (32, -1), (48, 1000),
+                                (49, (5,))):
                 self.raises(InvalidWorld, cell, call, GAME, changed(WORLD, cell, value), told)
             self.raises(InvalidWorld, len(WORLD) - 1, call, GAME, WORLD[:-1], told)
             self.raises(InvalidWorld, len(WORLD), call, GAME, WORLD + ((),), told)

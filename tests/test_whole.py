@@ -5,7 +5,8 @@ import unittest
 from itertools import product
 
 from cases import Case
-from samples import crowded_game, first, played_game, random_game, random_presses, random_rows_of_presses, random_script, random_reads
+from samples import (crowded_game, first, played_game, random_game, random_presses, random_reads,
+                     random_rows_of_presses, random_script)
 from slow_houses import SlowPlay, random_choice
 
 from latepresses.boxes import squares
@@ -272,9 +273,9 @@ class TestReturned(Case):
         console = Console()
         console.keep_game("g", game)
         console.keep_game("h", game)
-        for call, told in ((squares, ((0, 0, 9, 9), 8)), (run, (game, world, ((1, 2), (3, 4)))), (chained, ((world, world),)),
-                           (outcomes, (game, world, rows, (0, 2), 0)), (islands, (game, world, rows, (0, 2))), (house.worlds, ()),
-                           (console.names, ())):
+        for call, told in ((squares, ((0, 0, 9, 9), 8)), (run, (game, world, ((1, 2), (3, 4)))),
+                           (chained, ((world, world),)), (outcomes, (game, world, rows, (0, 2), 0)),
+                           (islands, (game, world, rows, (0, 2))), (house.worlds, ()), (console.names, ())):
             found = call(*told)
             kept = repr(found)
             self.spoil(found)

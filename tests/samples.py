@@ -111,8 +111,8 @@ def crowded_game(rng):
         go = ("go", ("number", rng.randint(-4, 4)), ("pick", ("same", ("drawn", 5), ("number", 0)),
                                                      ("number", rng.randint(-6, 0)), ("dy",)))
         kinds.append((name, rng.randint(3, 14), rng.randint(3, 9), traits, (0, 0, 0, 0), (go,)))
-    rows = ["".join(rng.choice("........=w") for _ in range(5)) for _ in range(5)] + [rng.choice(("#####", "#><##",
-                                                                                                  "##.##", "##=<>"))]
+    rows = ["".join(rng.choice("........=w") for _ in range(5)) for _ in range(5)]
+    rows.append(rng.choice(("#####", "#><##", "##.##", "##=<>")))
     starts = ()
     for _ in range(200):
         start = (rng.randrange(4), -1, rng.randint(0, 39), rng.randint(0, 39))
